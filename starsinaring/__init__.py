@@ -1,0 +1,1 @@
+"""Lines in a ring, no more than k of which cross two by two."""

@@ -1,0 +1,116 @@
+"""What callers pass in: fits_ functions take it as it stands, told_ functions take lists for tuples.
+
+A told_ function returns the value in tuples throughout, or raises Unfit.
+"""
+
+from starsinaring.crossing import all_cross
+from starsinaring.errors import NoPoint, Unfit
+
+
+def is_number(thing):
+    """Whether thing is an int and no bool."""
+    return isinstance(thing, int) and not isinstance(thing, bool)
+
+
+def fits_pair(thing):
+    """Whether thing is a tuple of two numbers."""
+    return isinstance(thing, tuple) and len(thing) == 2 and is_number(thing[0]) and is_number(thing[1])
+
+
+def fits_ring(thing):
+    """Whether thing is a RING."""
+    return fits_pair(thing) and thing[1] >= 1 and thing[0] >= 2 * thing[1] + 1
+
+
+def fits_line(ring, thing):
+    """Whether thing is a LINE of ring."""
+    return fits_pair(thing) and 0 <= thing[0] < thing[1] < ring[0]
+
+
+def is_ascending(row):
+    """Whether each of row is greater than the one ahead of it."""
+    return all([row[at] < row[at + 1] for at in range(len(row) - 1)])
+
+
+def fits_lines(ring, thing):
+    """Whether thing is a set of LINES of ring."""
+    # order is asked of LINES only: other values may have none
+    return isinstance(thing, tuple) and all([fits_line(ring, own) for own in thing]) and is_ascending(thing)
+
+
+def fits_crowd(ring, thing):
+    """Whether thing is a CROWD of ring."""
+    return fits_lines(ring, thing) and all_cross(thing)
+
+
+def are_among(some, lines):
+    """Whether all of some are of lines."""
+    return len(set(some) - set(lines)) == 0
+
+
+def told_number(value):
+    """value, a number."""
+    if not is_number(value):
+        raise Unfit()
+    return value
+
+
+def told_count(value):
+    """value, a number from 0."""
+    if told_number(value) < 0:
+        raise Unfit()
+    return value
+
+
+def told_row(value):
+    """value, a tuple of whatever it holds."""
+    if not isinstance(value, (list, tuple)):
+        raise Unfit()
+    return tuple(value)
+
+
+def told_numbers(value):
+    """value, a set of numbers."""
+    numbers = tuple([told_number(own) for own in told_row(value)])
+    if not is_ascending(numbers):
+        raise Unfit()
+    return numbers
+
+
+def told_ring(value):
+    """value, a RING."""
+    ring = told_row(value)
+    if not fits_ring(ring):
+        raise Unfit()
+    return ring
+
+
+def told_line(ring, value):
+    """value, a LINE of ring."""
+    line = told_row(value)
+    if not fits_line(ring, line):
+        raise Unfit()
+    return line
+
+
+def told_lines(ring, value):
+    """value, a set of LINES of ring."""
+    lines = tuple([told_line(ring, own) for own in told_row(value)])
+    if not is_ascending(lines):
+        raise Unfit()
+    return lines
+
+
+def told_crowd(ring, value):
+    """value, a CROWD of ring."""
+    crowd = told_lines(ring, value)
+    if not all_cross(crowd):
+        raise Unfit()
+    return crowd
+
+
+def ask_points(ring, numbers):
+    """Raises NoPoint for the first of numbers that is no point of ring."""
+    for number in numbers:
+        if not 0 <= number < ring[0]:
+            raise NoPoint(number)

@@ -1,0 +1,118 @@
+"""Lines of a ring."""
+
+from starsinaring.checks import ask_points, fits_line, fits_ring, told_count, told_line, told_number, told_ring
+from starsinaring.crossing import all_long, cross, is_long, joined, length
+from starsinaring.errors import CanNot
+
+
+def is_ring(thing):
+    """Whether thing is a RING."""
+    return fits_ring(thing)
+
+
+def is_line(ring, thing):
+    """Whether thing is a LINE of ring."""
+    return fits_line(told_ring(ring), thing)
+
+
+def length_of(ring, line):
+    """The length of line."""
+    ring = told_ring(ring)
+    return length(ring[0], told_line(ring, line))
+
+
+def kind_of(ring, line):
+    """Whether line is "short", "rim" or "long"."""
+    ring = told_ring(ring)
+    steps = length(ring[0], told_line(ring, line))
+    if steps < ring[1]:
+        return "short"
+    return "rim" if steps == ring[1] else "long"
+
+
+def long_lines(ring):
+    """The set of all long LINES."""
+    return all_long(told_ring(ring))
+
+
+def rim_lines(ring):
+    """The set of all rim LINES."""
+    n, k = told_ring(ring)
+    return tuple(sorted([joined(point, (point + k) % n) for point in range(n)]))
+
+
+def how_many_long(ring):
+    """How many long LINES there are."""
+    n, k = told_ring(ring)
+    return n * (n - 2 * k - 1) // 2
+
+
+def long_at(ring, point):
+    """The set of the long LINES one of whose ends is point."""
+    ring = told_ring(ring)
+    told_number(point)
+    ask_points(ring, (point,))
+    return tuple([line for line in all_long(ring) if point in line])
+
+
+def line_number(ring, line):
+    """How many long LINES are less than line, a long one."""
+    ring = told_ring(ring)
+    line = told_line(ring, line)
+    if not is_long(ring, line):
+        raise CanNot()
+    return all_long(ring).index(line)
+
+
+def line_at(ring, number):
+    """The long LINE than which number long LINES are less."""
+    lines = all_long(told_ring(ring))
+    if told_count(number) >= len(lines):
+        raise CanNot()
+    return lines[number]
+
+
+def steps_up(ring, point, far):
+    """How many steps lead up from point to far."""
+    return _steps(_ring_of_points(ring, point, far), point, far)
+
+
+def strictly_between(ring, point, far):
+    """The points strictly between point and far, going up from point."""
+    return _between(_ring_of_points(ring, point, far), point, far)
+
+
+def _ring_of_points(ring, point, far):
+    ring = told_ring(ring)
+    told_number(point)
+    told_number(far)
+    ask_points(ring, (point, far))
+    return ring
+
+
+def _steps(ring, point, far):
+    return (far - point) % ring[0]
+
+
+def _between(ring, point, far):
+    return tuple([(point + step) % ring[0] for step in range(1, _steps(ring, point, far))])
+
+
+def sides_of(ring, line):
+    """The points on either side of line."""
+    ring = told_ring(ring)
+    a, b = told_line(ring, line)
+    return (_between(ring, a, b), _between(ring, b, a))
+
+
+def do_cross(ring, line, other):
+    """Whether line and other cross."""
+    ring = told_ring(ring)
+    return cross(told_line(ring, line), told_line(ring, other))
+
+
+def crossers(ring, line):
+    """The set of the long LINES that cross line."""
+    ring = told_ring(ring)
+    line = told_line(ring, line)
+    return tuple([other for other in all_long(ring) if cross(line, other)])

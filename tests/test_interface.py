@@ -1,0 +1,58 @@
+"""The names, arguments and kinds of the interface."""
+
+import inspect
+import unittest
+from importlib import import_module
+
+ERRORS = {
+    "NoPoint": (LookupError, "point"), "NoLine": (LookupError, "line"), "NoStar": (LookupError, "star"),
+    "NothingDone": (LookupError, None), "BadText": (ValueError, "line"), "Broken": (ValueError, "number"),
+    "CanNot": (ValueError, None), "TooMany": (ValueError, None), "Unfit": (ValueError, None),
+}
+FUNCTIONS = {
+    "signs": "words(text) text_of(words) number_of(word) word_of(number)",
+    "lines": "is_ring(thing) is_line(ring,thing) length_of(ring,line) kind_of(ring,line) long_lines(ring) rim_lines(ring)"
+             " how_many_long(ring) long_at(ring,point) line_number(ring,line) line_at(ring,number)"
+             " steps_up(ring,point,far) strictly_between(ring,point,far) sides_of(ring,line) do_cross(ring,line,other)"
+             " crossers(ring,line)",
+    "crowds": "is_crowd(ring,thing) crowd_of(ring,points) points_of(ring,crowd) how_many_crowds(ring,number)"
+              " crowds_in(ring,lines,number) how_great(ring,lines) greatest_crowd(ring,lines) crowd_with(ring,lines,line)"
+              " is_greatest_crowd(ring,lines,thing) how_often(ring,lines)",
+}
+
+
+class Interface(unittest.TestCase):
+    def test_functions(self):
+        for file, told in FUNCTIONS.items():
+            module = import_module(f"starsinaring.{file}")
+            for entry in told.split():
+                name, _, arguments = entry.rstrip(")").partition("(")
+                with self.subTest(file=file, function=name):
+                    function = getattr(module, name)
+                    self.assertTrue(inspect.isfunction(function))
+                    self.assertEqual(f"starsinaring.{file}", function.__module__)
+                    self.assertEqual(name, function.__name__)
+                    signature = inspect.signature(function)
+                    self.assertEqual(arguments.split(","), list(signature.parameters))
+                    for parameter in signature.parameters.values():
+                        self.assertEqual(parameter.POSITIONAL_OR_KEYWORD, parameter.kind)
+                        self.assertIs(parameter.empty, parameter.default)
+
+    def test_errors(self):
+        module = import_module("starsinaring.errors")
+        for name, (base, attribute) in ERRORS.items():
+            with self.subTest(error=name):
+                error = getattr(module, name)
+                self.assertEqual("starsinaring.errors", error.__module__)
+                self.assertEqual((base,), error.__bases__)
+                if attribute is None:
+                    self.assertEqual({}, vars(error()))
+                else:
+                    value = (1, 4)
+                    self.assertIs(value, getattr(error(value), attribute))
+                    self.assertIs(value, getattr(error(**{attribute: value}), attribute))
+                    self.assertEqual({attribute: value}, vars(error(value)))
+
+
+if __name__ == "__main__":
+    unittest.main()
