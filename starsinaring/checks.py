@@ -3,7 +3,7 @@
 A told_ function returns the value in tuples throughout, or raises Unfit.
 """
 
-from starsinaring.crossing import all_cross
+from starsinaring.crossing import all_cross, is_long
 from starsinaring.errors import NoPoint, Unfit
 
 
@@ -41,6 +41,11 @@ def fits_lines(ring, thing):
 def fits_crowd(ring, thing):
     """Whether thing is a CROWD of ring."""
     return fits_lines(ring, thing) and all_cross(thing)
+
+
+def fits_drawing(ring, thing):
+    """Whether thing is a DRAWING of ring."""
+    return fits_lines(ring, thing) and all([is_long(ring, own) for own in thing])
 
 
 def are_among(some, lines):
@@ -99,6 +104,22 @@ def told_lines(ring, value):
     if not is_ascending(lines):
         raise Unfit()
     return lines
+
+
+def told_drawing(ring, value):
+    """value, a DRAWING of ring."""
+    drawing = told_lines(ring, value)
+    if not fits_drawing(ring, drawing):
+        raise Unfit()
+    return drawing
+
+
+def told_long_row(ring, value):
+    """value, a tuple of long LINES of ring, in whatever order, none twice."""
+    row = tuple([told_line(ring, own) for own in told_row(value)])
+    if not fits_drawing(ring, tuple(sorted(row))):
+        raise Unfit()
+    return row
 
 
 def told_crowd(ring, value):

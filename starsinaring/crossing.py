@@ -90,6 +90,12 @@ def _seen_from(n, line, lines):
     return seen
 
 
+def most_across(n, line, lines):
+    """How many LINES of lines, at most, cross line and one another."""
+    split = line[1] - line[0]
+    return room_table(n, _seen_from(n, line, lines), split)[0][split]
+
+
 def crowd_across(n, line, lines):
     """A CROWD with as many LINES of lines as can be that all cross line."""
     a, b = line

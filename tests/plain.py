@@ -103,3 +103,57 @@ def depth_of(value):
     if not isinstance(value, (list, tuple)):
         return 0
     return 1 + max([depth_of(own) for own in value], default=0)
+
+
+def lots_of(ring, drawings):
+    """Those of drawings that have no CROWD of k + 1 LINES."""
+    n, k = ring
+    full = [set(own) for own in crowds(cross_table(n), long_lines(ring), k + 1)]
+    return [own for own in drawings if not any(crowd <= set(own) for crowd in full)]
+
+
+def runs_of(ring):
+    """All runs, from 0 to n - k - 2."""
+    n, k = ring
+    return [tuple(line for line in long_lines(ring) if line[0] == run) for run in range(n - k - 1)]
+
+
+def greedy_wires(ring, drawing):
+    """The wires on the lanes, lane 1 first: at the beginning, and behind each run; crossings are kept in mind."""
+    n, k = ring
+    order = {lane: lane for lane in range(1, n - 2 * k + 1)}
+    crossed = set()
+    told = [tuple(order[lane] for lane in sorted(order))]
+    for run in runs_of(ring):
+        for a, b in run:
+            lane = b - a - k
+            both = frozenset([order[lane], order[lane + 1]])
+            if (a, b) not in drawing and both not in crossed:
+                crossed.add(both)
+                order[lane], order[lane + 1] = order[lane + 1], order[lane]
+        told.append(tuple(order[lane] for lane in sorted(order)))
+    return told
+
+
+def low_lanes(ring, drawing, low):
+    return [tuple(lane + 1 for lane, wire in enumerate(order) if wire <= low) for order in greedy_wires(ring, drawing)]
+
+
+def longest_row(ring, drawing, field):
+    """How many LINES the longest ROW of the field has: from near points to far ones, of drawing or not long."""
+    n, k = ring
+    near = k + field
+    long = long_lines(ring)
+    usable = [line for line in all_lines(n) if line[0] < near <= line[1] and (line in drawing or line not in long)]
+    best = {}
+    for a, b in usable:
+        best[(a, b)] = 1 + max([best[own] for own in best if own[0] < a and own[1] < b], default=0)
+    return max(best.values(), default=0)
+
+
+def put_in_turn(lots, lot, lines):
+    """lot with one of lines after the other put to it, whenever this is one of lots."""
+    for line in lines:
+        more = tuple(sorted({*lot, line}))
+        lot = more if more in lots else lot
+    return lot

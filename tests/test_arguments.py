@@ -24,39 +24,47 @@ def passed(values, name, value):
     return {own: value if own == name else values[own] for own in values}
 
 
+def in_lists(told):
+    """The arguments, lists in the place of all tuples but those of a thing."""
+    return {name: value if kind == "thing" else deep_list(value) for name, kind, value in told}
+
+
+EACH = [(function, told, {name: value for name, _, value in told}) for function, told in SAMPLES]
+WITH_THING = [own for own in EACH if "thing" in own[2]]
+
+
 class Arguments(unittest.TestCase):
-    def each(self):
-        for function, told in SAMPLES:
-            with self.subTest(function=function.__name__):
-                yield function, told, {name: value for name, _, value in told}
+    def assert_raises(self, error, attributes, function, values):
+        told = (function.__name__, values)
+        with self.assertRaises(error, msg=told) as caught:
+            function(**values)
+        self.assertIs(error, type(caught.exception), told)
+        self.assertEqual(repr(attributes), repr(vars(caught.exception)), told)
 
     def test_by_name_in_any_order_and_by_position(self):
-        for function, told, values in self.each():
+        for function, told, values in EACH:
             answer = function(*[value for _, _, value in told])
             self.assertEqual(answer, function(**values))
             self.assertEqual(answer, function(**{name: values[name] for name in reversed(list(values))}))
 
     def test_lists_for_tuples_at_each_depth(self):
-        for function, told, values in self.each():
+        for function, told, values in EACH:
             answer = repr(function(**values))
             for name, kind, value in told:
-                if kind == "thing":
-                    continue
-                changed = [deep_list(value)] + [lists_at(value, depth) for depth in range(depth_of(value))]
-                for own in changed:
-                    self.assertEqual(answer, repr(function(**passed(values, name, own))), own)
-            lists = {name: value if kind == "thing" else deep_list(value) for name, kind, value in told}
-            self.assertEqual(answer, repr(function(**lists)))
+                if kind != "thing":
+                    for own in [deep_list(value)] + [lists_at(value, depth) for depth in range(depth_of(value))]:
+                        self.assertEqual(answer, repr(function(**passed(values, name, own))), (function, own))
+            self.assertEqual(answer, repr(function(**in_lists(told))))
 
     def test_arguments_stay_as_they_were(self):
-        for function, told, values in self.each():
-            lists = {name: value if kind == "thing" else deep_list(value) for name, kind, value in told}
+        for function, told, _ in EACH:
+            lists = in_lists(told)
             kept = deepcopy(lists)
             function(**lists)
             self.assertEqual(repr(kept), repr(lists))
 
     def test_lists_that_are_returned_are_new(self):
-        for function, _, values in self.each():
+        for function, _, values in EACH:
             answer = function(**values)
             if isinstance(answer, list):
                 kept = list(answer)
@@ -65,58 +73,56 @@ class Arguments(unittest.TestCase):
                 self.assertEqual(kept, function(**values))
 
     def test_the_same_call_has_the_same_answer(self):
-        for function, _, values in self.each():
-            self.assertEqual(repr(function(**values)), repr(function(**values)))
+        for function, told, values in EACH:
+            answer = repr(function(**values))
+            self.assertEqual(answer, repr(function(**values)))
+            self.assertEqual(answer, repr(function(**in_lists(told))))
 
     def test_wrong_values_are_unfit(self):
-        for function, told, values in self.each():
+        for function, told, values in EACH:
             for name, kind, _ in told:
                 for own in wrong_values(kind, RING):
-                    with self.assertRaises(Unfit, msg=(name, own)):
-                        function(**passed(values, name, own))
+                    self.assert_raises(Unfit, {}, function, passed(values, name, own))
 
     def test_wrong_values_are_unfit_whatever_the_thing(self):
-        for function, told, values in self.each():
-            if not any(kind == "thing" for _, kind, _ in told):
-                continue
+        for function, told, values in WITH_THING:
             for name, kind, _ in told:
                 for own in wrong_values(kind, RING):
                     for thing in (None, True, [], (0, 3), nested(20, ())):
-                        with self.assertRaises(Unfit, msg=(name, own)):
-                            function(**{**passed(values, name, own), "thing": thing})
+                        self.assert_raises(Unfit, {}, function, {**passed(values, name, own), "thing": thing})
 
     def test_later_errors(self):
-        for function, told, values in self.each():
+        for function, told, values in EACH:
             for name, _, _ in told:
                 for own, error, attributes in LATE.get((function, name), ()):
-                    with self.assertRaises(error, msg=(name, own)) as caught:
-                        function(**passed(values, name, own))
-                    self.assertEqual(repr(attributes), repr(vars(caught.exception)))
-                    with self.assertRaises(error, msg=(name, own)) as caught:
-                        function(**passed(values, name, deep_list(own)))
-                    self.assertEqual(repr(attributes), repr(vars(caught.exception)))
+                    self.assert_raises(error, attributes, function, passed(values, name, own))
+                    self.assert_raises(error, attributes, function, passed(values, name, deep_list(own)))
+                    if "thing" in values:
+                        late = {**passed(values, name, own), "thing": nested(20, None)}
+                        self.assert_raises(error, attributes, function, late)
 
     def test_unfit_is_ahead_of_later_errors(self):
-        for function, told, values in self.each():
+        for function, told, values in EACH:
             for name, _, _ in told:
                 for own, _, _ in LATE.get((function, name), ()):
                     late = passed(values, name, own)
                     for other, kind, _ in told:
                         if other != name:
                             for bad in wrong_values(kind, RING):
-                                with self.assertRaises(Unfit, msg=(name, own, other, bad)):
-                                    function(**passed(late, other, bad))
+                                self.assert_raises(Unfit, {}, function, passed(late, other, bad))
+
+    def test_all_that_may_be_late_is_told(self):
+        for function, name in LATE:
+            self.assertIn(name, [values for own, _, values in EACH if own == function][0])
 
     def test_things_are_answered_by_a_truth_value(self):
-        for function, told, values in self.each():
-            if any(kind == "thing" for _, kind, _ in told):
-                self.assertIs(function(**values), True)
-                self.assertIs(function(**{**values, "thing": deep_list(values["thing"])}), False)
-                for depth in range(depth_of(values["thing"])):
-                    self.assertIs(function(**{**values, "thing": lists_at(values["thing"], depth)}), False)
-                for thing in THINGS:
-                    self.assertIn(function(**{**values, "thing": thing}), (True, False))
-                    self.assertIsInstance(function(**{**values, "thing": thing}), bool)
+        for function, _, values in WITH_THING:
+            good = values["thing"]
+            self.assertIs(function(**values), True, function)
+            for thing in [deep_list(good)] + [lists_at(good, depth) for depth in range(depth_of(good))]:
+                self.assertIs(function(**{**values, "thing": thing}), False, (function, thing))
+            for thing in THINGS:
+                self.assertIsInstance(function(**{**values, "thing": thing}), bool, (function, thing))
 
 
 if __name__ == "__main__":

@@ -3,9 +3,9 @@
 import unittest
 from pathlib import Path
 
-from starsinaring import crowds, errors, lines, signs
+from starsinaring import crowds, errors, filling, lines, lots, particles, runs, signs
 
-MODULES = (errors, signs, lines, crowds)
+MODULES = (errors, signs, lines, crowds, runs, particles, lots, filling)
 FOLDER = Path(__file__).parent / "examples"
 
 
@@ -39,7 +39,7 @@ class Examples(unittest.TestCase):
             self.assertEqual(repr(eval(expected)), repr(eval(source, names)))
 
     def one_error(self, source, expected, names):
-        name, _, values = expected.rstrip(")").partition("(")
+        name, _, values = expected[:-1].partition("(")
         with self.assertRaises(names[name]) as caught:
             eval(source, names)
         self.assertIs(type(caught.exception), names[name])

@@ -18,6 +18,19 @@ FUNCTIONS = {
     "crowds": "is_crowd(ring,thing) crowd_of(ring,points) points_of(ring,crowd) how_many_crowds(ring,number)"
               " crowds_in(ring,lines,number) how_great(ring,lines) greatest_crowd(ring,lines) crowd_with(ring,lines,line)"
               " is_greatest_crowd(ring,lines,thing) how_often(ring,lines)",
+    "runs": "how_many_lanes(ring) how_many_runs(ring) how_many_ties(ring) run_of(ring,run) runs_of(ring) run_end(ring,run)"
+            " tie_of(ring,line) is_tie(ring,thing) line_tied(ring,run,lane) ties_above(ring,lane) upper_next(ring,line)"
+            " lower_next(ring,line) ties_met(ring,line,other)",
+    "particles": "low_lanes(ring,drawing,low) lanes_of_low(ring,drawing,low,index) held_by(ring,drawing,low,index,run)"
+                 " comes(ring,drawing,low,index) how_many_below(ring,drawing,low) falls_short(ring,drawing)"
+                 " all_come(ring,drawing) read_back(ring,drawing,low,index) noted(ring,drawing)"
+                 " is_noted(ring,drawing,thing) least_width(ring,lines)",
+    "lots": "is_lot(ring,thing) sifted(ring,drawing) crossed_by(ring,lot,line) can_come(ring,lot) barred(ring,lot)"
+            " put_to(ring,lot,line) struck(ring,lot,line) bar_of(ring,lot,line) is_bar(ring,lot,line,thing)"
+            " keys_to(ring,lot,line) are_one_lot(ring,lot,other)",
+    "filling": "is_full(ring,thing) full_size(ring) lines_short(ring,lot) put_in_turn(ring,lot,lines) filled(ring,lot)"
+               " filled_by(ring,lot,lines) why_not_full(ring,drawing) is_why_not_full(ring,drawing,thing)"
+               " fan_at(ring,point) fans_like(ring,lot)",
 }
 
 
@@ -26,7 +39,7 @@ class Interface(unittest.TestCase):
         for file, told in FUNCTIONS.items():
             module = import_module(f"starsinaring.{file}")
             for entry in told.split():
-                name, _, arguments = entry.rstrip(")").partition("(")
+                name, _, arguments = entry[:-1].partition("(")
                 with self.subTest(file=file, function=name):
                     function = getattr(module, name)
                     self.assertTrue(inspect.isfunction(function))

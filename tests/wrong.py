@@ -37,22 +37,61 @@ def no_rings(ring):
 
 def no_lines(ring):
     n, _ = ring
-    found = pairs_like((0, n - 1)) + pairs_like((1, 2))
-    found += [(1, 0), (n - 1, 0), (2, 2), (0, 0), (-1, 3), (-2, -1), (0, n), (n - 1, n), (n, n + 1), (0, 10 ** 6)]
-    return found + [(False, 3), (False, n - 1), (0, True), (True, 3), [True, 3], (False, True)]
+    found = []
+    for a, b in ((0, n - 1), (1, 2), (0, 3), (1, 4), (n - 4, n - 1)):
+        found += pairs_like((a, b)) + [(b, a), [b, a], (a, a), (b, b)]
+    found += [(-1, 3), (-3, 0), (-2, -1), (0, n), (n - 1, n), (n - 3, n), [n - 3, n], (n, n + 1), (0, 10 ** 6)]
+    return found + [(False, 3), (False, 4), (True, 4), (True, 5), (0, True), (False, True), [True, 4]]
+
+
+def no_sets_like(ring, first, last):
+    """What is no set of LINES, but for one thing like (first, last), an ascending pair of LINES."""
+    found = [own for own in NO_TUPLES]
+    found += [{first: True}, {first}, iter(()), first, list(first), nested(20, first), nested(19, ()), ((first, last),)]
+    for line in no_lines(ring):
+        found += [(line,), [line]]
+    for line in ((0, ring[0]), (first[0], True), None, first[::-1], (*first, 1), [1, 1], (), nested(18, first)):
+        found += [(first, line), (line, last), (first, line, last)]
+    found += [(last, first), [last, first], (first, first), [list(last), list(last)], (first, last, last), (first, first, last)]
+    return found + [(first, last, first), (first, list(first)), (first, (last,))]
 
 
 def no_sets_of_lines(ring):
     n, _ = ring
-    found = [own for own in NO_TUPLES if own not in ((), "", {}, set())]
-    found += ["", {}, set(), {(0, 2): True}, {(0, 2)}, iter(()), (0, 2), [0, 2], nested(20, (0, 2)), nested(19, ())]
-    for line in no_lines(ring):
-        found.append((line,))
-        found.append([line])
-    for line in ((0, n), (1, True), None, (1, 0), (1, 2, 3), [1, 1], ()):
-        found += [((0, 1), line), (line, (n - 2, n - 1)), ((0, 1), line, (n - 2, n - 1))]
-    found += [((0, 2), (0, 1)), ((1, 2), (0, 2)), ((0, 2), (0, 2)), ((0, 1), (0, 2), (0, 2)), [[0, 2], [0, 2]]]
-    return found + [((0, 1), (1, 2), (0, 2)), ((0, 2), [0, 2]), (((0, 1), (0, 2)),), ((0, 1), ((0, 2),))]
+    return no_sets_like(ring, (0, 1), (n - 2, n - 1)) + no_sets_like(ring, (0, 3), (1, 4))
+
+
+def no_drawings(ring):
+    n, k = ring
+    first, last = (0, k + 1), (n - k - 2, n - 1)
+    found = no_sets_like(ring, first, last)
+    for line in ((0, 1), (0, k), (1, k), (1, k + 1), (0, n - 1), (0, n - k), (1, n - k + 1), (n - k - 1, n - 1)):
+        found += [(line,), tuple(sorted((first, line))), tuple(sorted((line, last))), tuple(sorted((first, line, last)))]
+    return found
+
+
+def no_long_rows(ring):
+    n, k = ring
+    first, last = (0, k + 1), (n - k - 2, n - 1)
+    both = ((first, last), (last, first))
+    # whatever their order, LINES may stand in a row
+    found = [own for own in no_drawings(ring) if own not in both and own not in tuple(list(pair) for pair in both)]
+    return found + [(last, first, last), (first, last, first), (last, last), [list(last), first, last]]
+
+
+def no_lots(ring):
+    n, k = ring
+    crowd = tuple((a, a + n // 2) for a in range(k + 1))
+    every = tuple((a, b) for a in range(n) for b in range(a + 1, n) if k < b - a < n - k)
+    found = [crowd, [list(own) for own in crowd], tuple(sorted({*crowd, (0, k + 1)})), every, every[1:]]
+    return no_drawings(ring) + found
+
+
+def no_full_lots(ring):
+    n, k = ring
+    fan = tuple((a, b) for a in range(k) for b in range(a + k + 1, n) if b - a < n - k)
+    less = [tuple(own for own in fan if own != line) for line in fan]
+    return no_lots(ring) + [(), []] + less + [fan[:1], [list(own) for own in fan[1:]]]
 
 
 def no_crowds(ring):
@@ -71,6 +110,10 @@ WRONG = {
     "ring": no_rings,
     "line": no_lines,
     "lines": no_sets_of_lines,
+    "drawing": no_drawings,
+    "longrow": no_long_rows,
+    "lot": no_lots,
+    "full": no_full_lots,
     "crowd": no_crowds,
     "ends": no_ends,
     "number": lambda ring: NO_NUMBERS,

@@ -1,0 +1,37 @@
+"""Ties and greedy wires, for values that are known to be fit."""
+
+
+def lanes_in(ring):
+    """How many lanes ring has."""
+    return ring[0] - 2 * ring[1]
+
+
+def runs_in(ring):
+    """How many runs ring has."""
+    return ring[0] - ring[1] - 1
+
+
+def ties_of(ring, run):
+    """The LINES of a run."""
+    n, k = ring
+    return tuple([(run, b) for b in range(run + k + 1, min(n, run + n - k))])
+
+
+def wire_orders(ring, drawing):
+    """The greedy wires, from lane 1 up: at the beginning, and behind each run."""
+    touched = set(drawing)
+    order = list(range(1, lanes_in(ring) + 1))
+    orders = [tuple(order)]
+    for run in range(runs_in(ring)):
+        for lane, line in enumerate(ties_of(ring, run), start=1):
+            # the lesser wire begins below: it is still there only if both have not yet crossed
+            if line not in touched and order[lane - 1] < order[lane]:
+                order[lane - 1], order[lane] = order[lane], order[lane - 1]
+        orders.append(tuple(order))
+    return orders
+
+
+def all_wires_cross(ring, drawing):
+    """Whether each two greedy wires come to cross: whether drawing is a LOT."""
+    last = wire_orders(ring, drawing)[-1]
+    return list(last) == list(reversed(range(1, lanes_in(ring) + 1)))
