@@ -4,7 +4,7 @@ A told_ function returns the value in tuples throughout, or raises Unfit.
 """
 
 from starsinaring.crossing import all_cross, is_long
-from starsinaring.errors import NoPoint, Unfit
+from starsinaring.errors import CanNot, NoPoint, Unfit
 
 
 def is_number(thing):
@@ -48,9 +48,9 @@ def fits_drawing(ring, thing):
     return fits_lines(ring, thing) and all([is_long(ring, own) for own in thing])
 
 
-def are_among(some, lines):
-    """Whether all of some are of lines."""
-    return len(set(some) - set(lines)) == 0
+def fits_crowd_of(ring, thing, lines, number):
+    """Whether thing is a CROWD of number LINES, all of lines."""
+    return fits_crowd(ring, thing) and len(thing) == number and len(set(thing) - set(lines)) == 0
 
 
 def told_number(value):
@@ -135,3 +135,9 @@ def ask_points(ring, numbers):
     for number in numbers:
         if not 0 <= number < ring[0]:
             raise NoPoint(number)
+
+
+def ask_long(ring, line):
+    """Raises CanNot if line is not long."""
+    if not is_long(ring, line):
+        raise CanNot()

@@ -3,7 +3,7 @@
 from math import comb
 
 from starsinaring.checks import (
-    are_among, ask_points, fits_crowd, told_count, told_crowd, told_line, told_lines, told_numbers, told_ring,
+    ask_points, fits_crowd, fits_crowd_of, told_count, told_crowd, told_line, told_lines, told_numbers, told_ring,
 )
 from starsinaring.crossing import cross, crowd_across, largest_crowd, room_table
 from starsinaring.errors import TooMany, Unfit
@@ -96,9 +96,7 @@ def is_greatest_crowd(ring, lines, thing):
     """Whether thing is a CROWD of how_great LINES, all of lines."""
     ring = told_ring(ring)
     lines = told_lines(ring, lines)
-    if not fits_crowd(ring, thing) or not are_among(thing, lines):
-        return False
-    return len(thing) == len(largest_crowd(ring[0], lines))
+    return fits_crowd_of(ring, thing, lines, len(largest_crowd(ring[0], lines)))
 
 
 def how_often(ring, lines):

@@ -1,11 +1,11 @@
 """Full lots, and how lots come to be full."""
 
 from starsinaring.checks import (
-    are_among, ask_points, fits_crowd, fits_line, told_drawing, told_long_row, told_number, told_ring,
+    ask_points, fits_crowd_of, fits_line, told_drawing, told_long_row, told_number, told_ring,
 )
 from starsinaring.crossing import all_long, is_long, largest_crowd
-from starsinaring.errors import CanNot, Unfit
-from starsinaring.putting import can_be_put, fits_lot, put_one_by_one, size_of_full, told_lot
+from starsinaring.errors import CanNot
+from starsinaring.putting import can_be_put, fits_lot, put_one_by_one, size_of_full, told_full, told_lot
 from starsinaring.wiring import all_wires_cross
 
 
@@ -66,7 +66,7 @@ def is_why_not_full(ring, drawing, thing):
         return False
     word, why = thing
     if not all_wires_cross(ring, drawing):
-        return word == "crowd" and fits_crowd(ring, why) and len(why) == ring[1] + 1 and are_among(why, drawing)
+        return word == "crowd" and fits_crowd_of(ring, why, drawing, ring[1] + 1)
     if word != "line" or not fits_line(ring, why) or not is_long(ring, why):
         return False
     return why not in drawing and can_be_put(ring, drawing, why)
@@ -83,9 +83,7 @@ def fan_at(ring, point):
 def fans_like(ring, lot):
     """The set of the points whose fan lot, a FULL LOT, is."""
     ring = told_ring(ring)
-    lot = told_lot(ring, lot)
-    if len(lot) != size_of_full(ring):
-        raise Unfit()
+    lot = told_full(ring, lot)
     return tuple([point for point in range(ring[0]) if _fan(ring, point) == lot])
 
 

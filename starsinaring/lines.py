@@ -1,7 +1,9 @@
 """Lines of a ring."""
 
-from starsinaring.checks import ask_points, fits_line, fits_ring, told_count, told_line, told_number, told_ring
-from starsinaring.crossing import all_long, cross, is_long, joined, length
+from starsinaring.checks import (
+    ask_long, ask_points, fits_line, fits_ring, told_count, told_line, told_number, told_ring,
+)
+from starsinaring.crossing import all_long, cross, joined, length
 from starsinaring.errors import CanNot
 
 
@@ -59,8 +61,7 @@ def line_number(ring, line):
     """How many long LINES are less than line, a long one."""
     ring = told_ring(ring)
     line = told_line(ring, line)
-    if not is_long(ring, line):
-        raise CanNot()
+    ask_long(ring, line)
     return all_long(ring).index(line)
 
 

@@ -1,6 +1,6 @@
 """Lots: sets of long lines no k + 1 of which cross two by two."""
 
-from starsinaring.checks import are_among, fits_crowd, told_drawing, told_line, told_ring
+from starsinaring.checks import fits_crowd_of, told_drawing, told_line, told_ring
 from starsinaring.crossing import all_long, cross, crowd_across, is_long, most_across
 from starsinaring.errors import CanNot, NoLine
 from starsinaring.putting import can_be_put, fits_lot, put_one_by_one, told_lot
@@ -59,15 +59,14 @@ def bar_of(ring, lot, line):
     ring, lot, line = _told_out(ring, lot, line)
     if can_be_put(ring, lot, line):
         raise CanNot()
-    return crowd_across(ring[0], line, lot)[:ring[1]]
+    # a LOT has no more than k LINES that cross two by two: the greatest CROWD has just so many
+    return crowd_across(ring[0], line, lot)
 
 
 def is_bar(ring, lot, line, thing):
     """Whether thing is a CROWD of k LINES of lot that all cross line."""
     ring, lot, line = _told_out(ring, lot, line)
-    if not fits_crowd(ring, thing) or len(thing) != ring[1] or not are_among(thing, lot):
-        return False
-    return all([cross(own, line) for own in thing])
+    return fits_crowd_of(ring, thing, lot, ring[1]) and all([cross(own, line) for own in thing])
 
 
 def keys_to(ring, lot, line):

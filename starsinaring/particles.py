@@ -1,6 +1,6 @@
 """Particles: low wires that go up all they can, and what holds those that fall short."""
 
-from starsinaring.checks import are_among, fits_crowd, told_drawing, told_lines, told_number, told_ring
+from starsinaring.checks import fits_crowd_of, told_drawing, told_lines, told_number, told_ring
 from starsinaring.crossing import is_long
 from starsinaring.errors import CanNot
 from starsinaring.wiring import all_wires_cross, lanes_in, runs_in, wire_orders
@@ -74,7 +74,7 @@ def is_noted(ring, drawing, thing):
     """Whether thing is a CROWD of k + 1 LINES of drawing."""
     ring = told_ring(ring)
     drawing = told_drawing(ring, drawing)
-    return fits_crowd(ring, thing) and len(thing) == ring[1] + 1 and are_among(thing, drawing)
+    return fits_crowd_of(ring, thing, drawing, ring[1] + 1)
 
 
 def least_width(ring, lines):

@@ -24,6 +24,14 @@ def size_of_full(ring):
     return ring[1] * (lanes_in(ring) - 1)
 
 
+def told_full(ring, value):
+    """value, a FULL LOT of ring, in tuples throughout; Unfit if it is none."""
+    lot = told_lot(ring, value)
+    if len(lot) != size_of_full(ring):
+        raise Unfit()
+    return lot
+
+
 def can_be_put(ring, lot, line):
     """Whether line, long and none of lot, a LOT, can be put to it."""
     return most_across(ring[0], line, lot) < ring[1]

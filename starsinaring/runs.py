@@ -1,7 +1,7 @@
 """Runs: the long lines in order, as ties between lanes."""
 
-from starsinaring.checks import fits_pair, told_line, told_number, told_ring
-from starsinaring.crossing import all_long, is_long, joined
+from starsinaring.checks import ask_long, fits_pair, told_line, told_number, told_ring
+from starsinaring.crossing import all_long, joined
 from starsinaring.errors import CanNot
 from starsinaring.wiring import lanes_in, runs_in, ties_of
 
@@ -90,8 +90,8 @@ def ties_met(ring, line, other):
     ring = told_ring(ring)
     line = told_line(ring, line)
     other = told_line(ring, other)
-    if not is_long(ring, line) or not is_long(ring, other):
-        raise CanNot()
+    ask_long(ring, line)
+    ask_long(ring, other)
     return tuple([own for own in all_long(ring) if line < own < other])
 
 
@@ -102,6 +102,5 @@ def _ask_run(ring, run):
 
 def _told_tie(ring, line):
     line = told_line(ring, line)
-    if not is_long(ring, line):
-        raise CanNot()
+    ask_long(ring, line)
     return line
