@@ -53,9 +53,8 @@ def crowds_in(ring, lines, number):
         if b not in rooms:
             # greater ends grow from b on: this parts them from all lesser ends
             rooms[b] = room_table(ring[0], marked, b)
-        if rooms[b][a + 1][b + 1] + 1 >= number:
-            rest = [(c, d) for c, d in lines if a < c < b < d]
-            _go_on((line,), rest, rooms[b], number, found)
+        rest = [(c, d) for c, d in lines if a < c < b < d]
+        _go_on((line,), rest, rooms[b], number, found)
     return found
 
 
