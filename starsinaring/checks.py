@@ -3,8 +3,8 @@
 A told_ function returns the value in tuples throughout, or raises Unfit.
 """
 
-from starsinaring.crossing import all_cross, is_long
-from starsinaring.errors import CanNot, NoPoint, Unfit
+from starsinaring.crossing import all_cross, is_long, length
+from starsinaring.errors import CanNot, NoLine, NoPoint, Unfit
 
 
 def is_number(thing):
@@ -46,6 +46,13 @@ def fits_crowd(ring, thing):
 def fits_drawing(ring, thing):
     """Whether thing is a DRAWING of ring."""
     return fits_lines(ring, thing) and all([is_long(ring, own) for own in thing])
+
+
+def fits_star(ring, thing):
+    """Whether thing is a STAR of ring."""
+    if not isinstance(thing, tuple) or not all([is_number(own) for own in thing]):
+        return False
+    return len(thing) == 2 * ring[1] + 1 and is_ascending(thing) and 0 <= thing[0] and thing[-1] < ring[0]
 
 
 def fits_crowd_of(ring, thing, lines, number):
@@ -98,6 +105,14 @@ def told_line(ring, value):
     return line
 
 
+def told_long_line(ring, value):
+    """value, a long LINE of ring."""
+    line = told_line(ring, value)
+    if not is_long(ring, line):
+        raise Unfit()
+    return line
+
+
 def told_lines(ring, value):
     """value, a set of LINES of ring."""
     lines = tuple([told_line(ring, own) for own in told_row(value)])
@@ -130,6 +145,22 @@ def told_crowd(ring, value):
     return crowd
 
 
+def told_star(ring, value):
+    """value, a STAR of ring."""
+    star = told_row(value)
+    if not fits_star(ring, star):
+        raise Unfit()
+    return star
+
+
+def told_group(ring, value):
+    """value, a set of STARS of ring."""
+    group = tuple([told_star(ring, own) for own in told_row(value)])
+    if not is_ascending(group):
+        raise Unfit()
+    return group
+
+
 def ask_points(ring, numbers):
     """Raises NoPoint for the first of numbers that is no point of ring."""
     for number in numbers:
@@ -141,3 +172,21 @@ def ask_long(ring, line):
     """Raises CanNot if line is not long."""
     if not is_long(ring, line):
         raise CanNot()
+
+
+def ask_of(lot, line):
+    """Raises NoLine if line is none of lot."""
+    if line not in lot:
+        raise NoLine(line)
+
+
+def ask_side(ring, lot, line):
+    """Raises NoLine if line is neither of lot nor rim."""
+    if line not in lot and length(ring[0], line) != ring[1]:
+        raise NoLine(line)
+
+
+def ask_out(ring, lot, line):
+    """Raises NoLine if line is not long, or is one of lot."""
+    if line in lot or not is_long(ring, line):
+        raise NoLine(line)

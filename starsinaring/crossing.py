@@ -17,6 +17,28 @@ def all_long(ring):
     return tuple([(a, b) for a in range(n) for b in range(a + 1, n) if is_long(ring, (a, b))])
 
 
+def all_rim(ring):
+    """The set of all rim LINES of ring."""
+    n, k = ring
+    return tuple(sorted([joined(point, (point + k) % n) for point in range(n)]))
+
+
+def steps_to(n, point, far):
+    """How many steps lead up from point to far in a ring of n points."""
+    return (far - point) % n
+
+
+def between(n, point, far):
+    """The points strictly between point and far, going up from point."""
+    return tuple([(point + step) % n for step in range(1, steps_to(n, point, far))])
+
+
+def looks(n, corner, far):
+    """Whether corner looks at far."""
+    _, q, r = corner
+    return 0 < steps_to(n, q, far) < steps_to(n, q, r)
+
+
 def joined(point, far):
     """The LINE of two points."""
     return (min(point, far), max(point, far))

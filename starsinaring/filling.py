@@ -5,14 +5,13 @@ from starsinaring.checks import (
 )
 from starsinaring.crossing import all_long, is_long, largest_crowd
 from starsinaring.errors import CanNot
-from starsinaring.putting import can_be_put, fits_lot, put_one_by_one, size_of_full, told_full, told_lot
+from starsinaring.putting import can_be_put, fits_full, put_one_by_one, size_of_full, told_full, told_lot
 from starsinaring.wiring import all_wires_cross
 
 
 def is_full(ring, thing):
     """Whether thing is a FULL LOT of ring."""
-    ring = told_ring(ring)
-    return fits_lot(ring, thing) and len(thing) == size_of_full(ring)
+    return fits_full(told_ring(ring), thing)
 
 
 def full_size(ring):

@@ -3,7 +3,7 @@
 from starsinaring.checks import (
     ask_long, ask_points, fits_line, fits_ring, told_count, told_line, told_number, told_ring,
 )
-from starsinaring.crossing import all_long, cross, joined, length
+from starsinaring.crossing import all_long, all_rim, between, cross, length, steps_to
 from starsinaring.errors import CanNot
 
 
@@ -39,8 +39,7 @@ def long_lines(ring):
 
 def rim_lines(ring):
     """The set of all rim LINES."""
-    n, k = told_ring(ring)
-    return tuple(sorted([joined(point, (point + k) % n) for point in range(n)]))
+    return all_rim(told_ring(ring))
 
 
 def how_many_long(ring):
@@ -75,35 +74,28 @@ def line_at(ring, number):
 
 def steps_up(ring, point, far):
     """How many steps lead up from point to far."""
-    return _steps(_ring_of_points(ring, point, far), point, far)
+    return steps_to(_size_with_points(ring, point, far), point, far)
 
 
 def strictly_between(ring, point, far):
     """The points strictly between point and far, going up from point."""
-    return _between(_ring_of_points(ring, point, far), point, far)
+    return between(_size_with_points(ring, point, far), point, far)
 
 
-def _ring_of_points(ring, point, far):
+def _size_with_points(ring, point, far):
+    """How many points ring has; point and far are two of them."""
     ring = told_ring(ring)
     told_number(point)
     told_number(far)
     ask_points(ring, (point, far))
-    return ring
-
-
-def _steps(ring, point, far):
-    return (far - point) % ring[0]
-
-
-def _between(ring, point, far):
-    return tuple([(point + step) % ring[0] for step in range(1, _steps(ring, point, far))])
+    return ring[0]
 
 
 def sides_of(ring, line):
     """The points on either side of line."""
     ring = told_ring(ring)
     a, b = told_line(ring, line)
-    return (_between(ring, a, b), _between(ring, b, a))
+    return (between(ring[0], a, b), between(ring[0], b, a))
 
 
 def do_cross(ring, line, other):

@@ -1,8 +1,8 @@
 """Lots: sets of long lines no k + 1 of which cross two by two."""
 
-from starsinaring.checks import fits_crowd_of, told_drawing, told_line, told_ring
-from starsinaring.crossing import all_long, cross, crowd_across, is_long, most_across
-from starsinaring.errors import CanNot, NoLine
+from starsinaring.checks import ask_of, ask_out, fits_crowd_of, told_drawing, told_line, told_ring
+from starsinaring.crossing import all_long, cross, crowd_across, most_across
+from starsinaring.errors import CanNot
 from starsinaring.putting import can_be_put, fits_lot, put_one_by_one, told_lot
 from starsinaring.wiring import all_wires_cross
 
@@ -49,8 +49,7 @@ def put_to(ring, lot, line):
 def struck(ring, lot, line):
     """The LOT without line."""
     ring, lot, line = _told(ring, lot, line)
-    if line not in lot:
-        raise NoLine(line)
+    ask_of(lot, line)
     return _without(lot, line)
 
 
@@ -95,6 +94,5 @@ def _told(ring, lot, line):
 def _told_out(ring, lot, line):
     """The three, line a long one out of lot."""
     ring, lot, line = _told(ring, lot, line)
-    if line in lot or not is_long(ring, line):
-        raise NoLine(line)
+    ask_out(ring, lot, line)
     return (ring, lot, line)

@@ -3,7 +3,7 @@
 from starsinaring.checks import fits_crowd_of, told_drawing, told_lines, told_number, told_ring
 from starsinaring.crossing import is_long
 from starsinaring.errors import CanNot
-from starsinaring.wiring import all_wires_cross, lanes_in, runs_in, wire_orders
+from starsinaring.wiring import all_wires_cross, ask_run, lanes_in, wire_orders
 
 
 def low_lanes(ring, drawing, low):
@@ -24,8 +24,7 @@ def held_by(ring, drawing, low, index, run):
     """What holds low one index in the run: a LINE, "above" or "end"."""
     ring, drawing = _told_drawing_with(ring, drawing, (low, index, run))
     _ask_low_one(ring, low, index)
-    if not 0 <= run < runs_in(ring):
-        raise CanNot()
+    ask_run(ring, run)
     return _holder(ring, drawing, _lanes_by_run(ring, drawing, low), low - index, run)
 
 

@@ -1,6 +1,6 @@
 """Lots, and what can be put to them."""
 
-from starsinaring.checks import fits_drawing, told_drawing
+from starsinaring.checks import ask_points, fits_drawing, told_drawing, told_number, told_ring
 from starsinaring.crossing import most_across
 from starsinaring.errors import Unfit
 from starsinaring.wiring import all_wires_cross, lanes_in
@@ -19,15 +19,35 @@ def told_lot(ring, value):
     return lot
 
 
+def told_lot_with(ring, lot, points):
+    """ring and lot; NoPoint for the first of points, numbers, that is no point of ring."""
+    ring = told_ring(ring)
+    lot = told_lot(ring, lot)
+    for point in points:
+        told_number(point)
+    ask_points(ring, points)
+    return (ring, lot)
+
+
 def size_of_full(ring):
     """How many LINES a FULL LOT of ring has."""
     return ring[1] * (lanes_in(ring) - 1)
 
 
+def is_full_lot(ring, drawing):
+    """Whether drawing, a DRAWING, is a FULL LOT of ring."""
+    return len(drawing) == size_of_full(ring) and all_wires_cross(ring, drawing)
+
+
+def fits_full(ring, thing):
+    """Whether thing is a FULL LOT of ring."""
+    return fits_drawing(ring, thing) and is_full_lot(ring, thing)
+
+
 def told_full(ring, value):
     """value, a FULL LOT of ring, in tuples throughout; Unfit if it is none."""
-    lot = told_lot(ring, value)
-    if len(lot) != size_of_full(ring):
+    lot = told_drawing(ring, value)
+    if not is_full_lot(ring, lot):
         raise Unfit()
     return lot
 

@@ -3,7 +3,7 @@
 from starsinaring.checks import ask_long, fits_pair, told_line, told_number, told_ring
 from starsinaring.crossing import all_long, joined
 from starsinaring.errors import CanNot
-from starsinaring.wiring import lanes_in, runs_in, ties_of
+from starsinaring.wiring import ask_run, lanes_in, runs_in, ties_of
 
 
 def how_many_lanes(ring):
@@ -25,7 +25,7 @@ def run_of(ring, run):
     """The LINES of the run."""
     ring = told_ring(ring)
     told_number(run)
-    _ask_run(ring, run)
+    ask_run(ring, run)
     return ties_of(ring, run)
 
 
@@ -93,11 +93,6 @@ def ties_met(ring, line, other):
     ask_long(ring, line)
     ask_long(ring, other)
     return tuple([own for own in all_long(ring) if line < own < other])
-
-
-def _ask_run(ring, run):
-    if not 0 <= run < runs_in(ring):
-        raise CanNot()
 
 
 def _told_tie(ring, line):

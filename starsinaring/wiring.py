@@ -1,4 +1,6 @@
-"""Ties and greedy wires, for values that are known to be fit."""
+"""Ties, greedy wires and plain ones, for values that are known to be fit."""
+
+from starsinaring.errors import CanNot
 
 
 def lanes_in(ring):
@@ -35,3 +37,27 @@ def all_wires_cross(ring, drawing):
     """Whether each two greedy wires come to cross: whether drawing is a LOT."""
     last = wire_orders(ring, drawing)[-1]
     return list(last) == list(reversed(range(1, lanes_in(ring) + 1)))
+
+
+def plain_wires(ring, drawing):
+    """For each long LINE the two plain wires at its tie, the lower one first; and all, from lane 1 up, at the end."""
+    touched = set(drawing)
+    order = list(range(1, lanes_in(ring) + 1))
+    pairs = {}
+    for run in range(runs_in(ring)):
+        for at, line in enumerate(ties_of(ring, run)):
+            pairs[line] = (order[at], order[at + 1])
+            if line not in touched:
+                order[at], order[at + 1] = order[at + 1], order[at]
+    return (pairs, tuple(order))
+
+
+def lines_crossed(lot, pairs):
+    """For each two wires, the lesser one first, the LINE at which they cross; pairs those of a FULL LOT."""
+    return {tuple(sorted(pairs[line])): line for line in pairs if line not in lot}
+
+
+def ask_run(ring, run):
+    """Raises CanNot if run is none."""
+    if not 0 <= run < runs_in(ring):
+        raise CanNot()

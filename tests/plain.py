@@ -1,5 +1,6 @@
 """What the document says, searched for plainly, without any code of the package."""
 
+from functools import lru_cache
 from itertools import combinations
 from random import Random
 
@@ -157,3 +158,137 @@ def put_in_turn(lots, lot, lines):
         more = tuple(sorted({*lot, line}))
         lot = more if more in lots else lot
     return lot
+
+
+@lru_cache(maxsize=None)
+def all_lots(ring):
+    """All LOTS of ring, ascending: grown LINE by LINE, as long as no k + 1 cross."""
+    n, k = ring
+    table = cross_table(n)
+    long = long_lines(ring)
+    found = []
+
+    def grow(lot, at):
+        found.append(lot)
+        for place in range(at, len(long)):
+            crossing = tuple(own for own in lot if (own, long[place]) in table)
+            if greatest(table, crossing) < k:
+                grow((*lot, long[place]), place + 1)
+
+    grow((), 0)
+    return tuple(sorted(found))
+
+
+@lru_cache(maxsize=None)
+def full_lots(ring):
+    """All FULL LOTS of ring, ascending."""
+    lots = set(all_lots(ring))
+    long = long_lines(ring)
+    return tuple(lot for lot in all_lots(ring)
+                 if not any(tuple(sorted({*lot, line})) in lots for line in long if line not in lot))
+
+
+def line_of(point, far):
+    return (point, far) if point < far else (far, point)
+
+
+def sides(ring, lot):
+    """The LINES of lot, and rim."""
+    return {*lot, *rim_lines(ring)}
+
+
+def comes_to(n, point, first, then):
+    """Whether, going up from point, one comes to first, then to then."""
+    return first in walk_between(n, point, then)
+
+
+def all_corners(ring, lot):
+    """All CORNERS of lot, ascending, by what a CORNER is."""
+    n, _ = ring
+    side = sides(ring, lot)
+    far = {p: [q for q in range(n) if q != p and line_of(p, q) in side] for p in range(n)}
+    return tuple((p, q, r) for p in range(n) for q in far[p] for r in far[p] if q != r and comes_to(n, p, q, r)
+                 and not any(x in far[p] for x in walk_between(n, q, r)))
+
+
+def next_corner(corners, corner):
+    """The CORNER at r whose second member is p."""
+    p, _, r = corner
+    found = [own for own in corners if own[0] == r and own[1] == p]
+    assert len(found) == 1
+    return found[0]
+
+
+def walk_of(corners, corner):
+    walk = [corner]
+    while next_corner(corners, walk[-1]) != corner:
+        walk.append(next_corner(corners, walk[-1]))
+    return tuple(walk)
+
+
+@lru_cache(maxsize=None)
+def all_stars(ring):
+    n, k = ring
+    return tuple(combinations(range(n), 2 * k + 1))
+
+
+def star_lines(star):
+    """From each of its points to the k-th next one of them."""
+    k = len(star) // 2
+    twice = star + star
+    return tuple(sorted({line_of(point, twice[at + k]) for at, point in enumerate(star)}))
+
+
+def star_corners(star):
+    """The corners of star, by its points."""
+    k = len(star) // 2
+    twice = star + star
+    return {point: (point, twice[at + k], twice[at + k + 1]) for at, point in enumerate(star)}
+
+
+def stars_in(ring, lot):
+    """The STARS in lot, by all choices of 2k + 1 points."""
+    side = sides(ring, lot)
+    return tuple(star for star in all_stars(ring) if set(star_lines(star)) <= side)
+
+
+def meets(n, line, star, other):
+    """Whether line meets star and other."""
+    mine, theirs = star_corners(star), star_corners(other)
+    for p, q in (line, line[::-1]):
+        if p in mine and q in theirs:
+            if q in walk_between(n, *mine[p][1:]) and p in walk_between(n, *theirs[q][1:]):
+                return True
+    return False
+
+
+def plain_wires(ring, drawing):
+    """What plain wires do: (LINE, lower wire, upper wire) for each tie, and the wires behind each run."""
+    n, k = ring
+    on = {lane: lane for lane in range(1, n - 2 * k + 1)}
+    ties, orders = [], []
+    for run in runs_of(ring):
+        for a, b in run:
+            lane = b - a - k
+            ties.append(((a, b), on[lane], on[lane + 1]))
+            if (a, b) not in drawing:
+                on[lane], on[lane + 1] = on[lane + 1], on[lane]
+        orders.append(tuple(on[lane] for lane in sorted(on)))
+    return ties, orders
+
+
+def crossings(ring, lot):
+    """Where wires cross, by pairs of them, in either order."""
+    found = {}
+    for line, low, high in plain_wires(ring, lot)[0]:
+        if line not in lot:
+            found[(low, high)] = found[(high, low)] = line
+    return found
+
+
+def told_crossings(ring, lot):
+    """The table of the LINES at which wires cross."""
+    n, k = ring
+    found = crossings(ring, lot)
+    wires = range(1, n - 2 * k + 1)
+    return tuple(tuple(found.get((own, far)) for far in wires) for own in wires)

@@ -3,9 +3,11 @@
 import unittest
 from pathlib import Path
 
-from starsinaring import crowds, errors, filling, lines, lots, particles, runs, signs
+from starsinaring import (
+    corners, crowds, errors, filling, lines, lots, meeting, particles, runs, signs, stars, wires,
+)
 
-MODULES = (errors, signs, lines, crowds, runs, particles, lots, filling)
+MODULES = (errors, signs, lines, crowds, runs, particles, lots, filling, corners, stars, meeting, wires)
 FOLDER = Path(__file__).parent / "examples"
 
 

@@ -31,6 +31,20 @@ FUNCTIONS = {
     "filling": "is_full(ring,thing) full_size(ring) lines_short(ring,lot) put_in_turn(ring,lot,lines) filled(ring,lot)"
                " filled_by(ring,lot,lines) why_not_full(ring,drawing) is_why_not_full(ring,drawing,thing)"
                " fan_at(ring,point) fans_like(ring,lot)",
+    "corners": "neighbours(ring,lot,point) corners_at(ring,lot,point) all_corners(ring,lot) is_corner(ring,lot,thing)"
+               " looks_at(ring,lot,corner) corner_looking(ring,lot,point,far) corners_of(ring,lot,line)"
+               " next_corner(ring,lot,corner) corner_ahead(ring,lot,corner) corner_walk(ring,lot,corner)"
+               " walk_rounds(ring,lot,corner) corner_walks(ring,lot) is_star_walk(ring,lot,corner)",
+    "stars": "is_star(ring,thing) lines_of_star(ring,star) common_lines(ring,star,other) stars_in(ring,lot)"
+             " is_star_in(ring,lot,thing) how_many_stars(ring,lot) stars_at(ring,lot,point) stars_of_line(ring,lot,line)"
+             " rim_star(ring,lot,point) star_of_corner(ring,lot,corner) stars_beside(ring,lot,star)"
+             " lacking_lines(ring,lot,star) lot_with_stars(ring,group) lot_of_stars(ring,group) star_left(ring,group)",
+    "meeting": "lines_out(ring,lot) lot_without(ring,lines) met_line(ring,lot,star,other) met_stars(ring,lot,line)"
+               " couples(ring,lot) couples_of(ring,lot,star) corner_of(ring,star,point) seen_from(ring,star,point)"
+               " do_meet(ring,star,other,line) all_meeting(ring,star,other) get_along(ring,star,other)",
+    "wires": "wire_way(ring,lot,wire) star_of(ring,lot,wire) wire_of(ring,lot,star) cross_line(ring,lot,wire,far)"
+             " wires_at(ring,lot,line) order_behind(ring,lot,run) crosses_told(ring,lot) lot_of_crosses(ring,table)"
+             " passes(ring,drawing) all_once(ring,drawing) end_order(ring,drawing)",
 }
 
 

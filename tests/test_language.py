@@ -17,7 +17,7 @@ BUILTINS = set(
     " divmod map ValueError LookupError KeyError".split()
 )
 METHODS = set(
-    "append clear copy count endswith extend find get index insert items join keys pop remove replace reverse setdefault"
+    "add append clear copy count endswith extend find get index insert items join keys pop remove replace reverse setdefault"
     " split startswith strip update values".split()
 )
 BANNED_NAMES = set(

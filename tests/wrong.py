@@ -1,5 +1,7 @@
 """Values that are none of what an argument asks for, each for one reason alone."""
 
+from tests import plain
+
 
 def nested(levels, inmost):
     """inmost in tuples, so many levels deep."""
@@ -106,6 +108,60 @@ def no_ends(ring):
     return found + [((0, 1),), ((0,), (1,)), nested(20, 0), {0: 1}, {0, 1}]
 
 
+def no_corners(ring):
+    """What is no CORNER of the LOT of [samples.py], but for one thing like (5, 7, 1) or (0, 3, 6)."""
+    found = [own for own in NO_TUPLES] + [(), (5,), (5, 7), (5, 7, 1, 1), (5, 7, 1, 4), ((5, 7, 1),), nested(20, 5), {5: 7, 7: 1, 1: 5}]
+    for at in range(3):
+        for own in (None, True, False, "5", 5.0, (5,), [5], nested(19, 5), -1, -3, ring[0], ring[0] + 5, 10 ** 6):
+            found += [(5, 7, 1)[:at] + (own,) + (5, 7, 1)[at + 1:], [0, 3, 6][:at] + [own] + [0, 3, 6][at + 1:]]
+    found += [(5, 1, 7), (7, 1, 5), (1, 5, 7)[::-1], (5, 2, 1), (5, 7, 2), (5, 1, 3), (5, 5, 1), (5, 7, 7), (0, 6, 3), (0, 2, 6)]
+    return found + [(0, 0, 2), (0, 6, 0), (False, 3, 6), (0, 3, 4), [0, 4, 6], (6, 7, 4), (5.0, 7, 1), (5, 7, True), (True, 3, 5)]
+
+
+def no_stars(ring):
+    n, k = ring
+    star, other = (0, 1, 2, 3, 5), (1, 3, 4, 6, 7)
+    found = [own for own in NO_TUPLES] + [(star,), [list(star)], nested(20, 0), {0: 1, 1: 2, 2: 3, 3: 5, 5: 0}, set(star), iter(star)]
+    for own in (star, other):
+        found += [own[:-1], own[1:], own + (n,), tuple(sorted({*own, 2, 4})), own[::-1], list(own[::-1]), own[1:] + own[:1]]
+        found += [own[:4] + own[3:4], own[:1] + own[:4], own[:4] + (n,), (-1,) + own[1:], own[:4] + (10 ** 6,), (-10 ** 6,) + own[1:]]
+        for at in range(len(own)):
+            for bad in (None, str(own[at]), float(own[at]), (own[at],), [own[at]], nested(18, own[at])):
+                found += [own[:at] + (bad,) + own[at + 1:], list(own[:at]) + [bad] + list(own[at + 1:])]
+    return found + [(False, 1, 2, 3, 5), (0, True, 2, 3, 5), (True, 3, 4, 6, 7), [0, True, 2, 3, 5], tuple(range(n)), (0,) * 5]
+
+
+def no_groups(ring):
+    star, other = (0, 1, 2, 3, 5), (1, 3, 4, 6, 7)
+    found = [own for own in NO_TUPLES] + [star, list(star), {star: True}, {star}, iter(()), ((star, other),), nested(20, star)]
+    for own in no_stars(ring):
+        found += [(own,), [own]]
+    for own in (None, star[::-1], star[1:], star + (6,), (0, 1, 2, 3, 8), (False, 1, 2, 3, 5), 0, (star,)):
+        found += [(own, other), (star, own), (star, own, other)]
+    return found + [(other, star), (star, star), [list(star), list(star)], (star, other, other), (star, other, star)]
+
+
+def no_tables(ring):
+    n, k = ring
+    table = plain.told_crossings(ring, ((0, 3), (0, 4), (0, 5), (1, 5), (2, 5), (4, 7)))
+    many = len(table)
+    found = [own for own in NO_TUPLES] + [(), table[1:], table + table[:1], table[::-1], table[0], (table,), nested(20, None)]
+    found += [tuple(row[1:] for row in table), tuple(row + row[:1] for row in table), tuple(row[::-1] for row in table), (None,) * many]
+    found += [tuple(tuple(None for _ in row) for row in table), ((0, k + 1),) * many, (((0, k + 1),) * many,) * many]
+    bad = [own for own in no_lines(ring)] + [(0, 1), (0, k), (1, k), (0, n - 1), (n - k - 1, n - 1), [0, k]]
+    for at, far in ((0, 1), (1, 0), (2, 3), (many - 1, 0), (many - 2, many - 1)):
+        found += [_replaced(table, at, far, own) for own in bad]
+    for at in range(many):
+        found += [_replaced(table, at, at, own) for own in (0, False, (), "", (0, k + 1), [0, k + 1], (None,))]
+        found += [table[:at] + (own,) + table[at + 1:] for own in (None, (), table[at][1:], table[at] + (None,), 3, list(table[at][:-1]))]
+    return found
+
+
+def _replaced(table, at, far, value):
+    row = table[at][:far] + (value,) + table[at][far + 1:]
+    return table[:at] + (row,) + table[at + 1:]
+
+
 WRONG = {
     "ring": no_rings,
     "line": no_lines,
@@ -116,6 +172,10 @@ WRONG = {
     "full": no_full_lots,
     "crowd": no_crowds,
     "ends": no_ends,
+    "corner": no_corners,
+    "star": no_stars,
+    "group": no_groups,
+    "table": no_tables,
     "number": lambda ring: NO_NUMBERS,
     "count": lambda ring: NO_COUNTS,
 }
