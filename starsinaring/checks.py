@@ -4,7 +4,9 @@ A told_ function returns the value in tuples throughout, or raises Unfit.
 """
 
 from starsinaring.crossing import all_cross, is_long, length
-from starsinaring.errors import CanNot, NoLine, NoPoint, Unfit
+from starsinaring.errors import CanNot, NoLine, NoPoint, TooMany, Unfit
+
+_FEW = 2000
 
 
 def is_number(thing):
@@ -168,6 +170,12 @@ def ask_points(ring, numbers):
             raise NoPoint(number)
 
 
+def ask_between(number, least, most):
+    """Raises CanNot if number is not from least to most."""
+    if not least <= number <= most:
+        raise CanNot()
+
+
 def ask_long(ring, line):
     """Raises CanNot if line is not long."""
     if not is_long(ring, line):
@@ -190,3 +198,9 @@ def ask_out(ring, lot, line):
     """Raises NoLine if line is not long, or is one of lot."""
     if line in lot or not is_long(ring, line):
         raise NoLine(line)
+
+
+def ask_few(number):
+    """Raises TooMany if so many are not few."""
+    if number > _FEW:
+        raise TooMany()

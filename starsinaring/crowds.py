@@ -3,12 +3,11 @@
 from math import comb
 
 from starsinaring.checks import (
-    ask_points, fits_crowd, fits_crowd_of, told_count, told_crowd, told_line, told_lines, told_numbers, told_ring,
+    ask_few, ask_points, fits_crowd, fits_crowd_of,
+    told_count, told_crowd, told_line, told_lines, told_numbers, told_ring,
 )
 from starsinaring.crossing import cross, crowd_across, largest_crowd, room_table
-from starsinaring.errors import TooMany, Unfit
-
-_FEW = 2000
+from starsinaring.errors import Unfit
 
 
 def is_crowd(ring, thing):
@@ -61,8 +60,7 @@ def crowds_in(ring, lines, number):
 def _go_on(crowd, rest, room, number, found):
     """Puts to found, ascending, all CROWDS of number LINES: those of crowd, then some of rest."""
     if len(crowd) == number:
-        if len(found) == _FEW:
-            raise TooMany()
+        ask_few(len(found) + 1)
         found.append(crowd)
         return
     for a, b in rest:

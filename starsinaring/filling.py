@@ -5,7 +5,7 @@ from starsinaring.checks import (
 )
 from starsinaring.crossing import all_long, is_long, largest_crowd
 from starsinaring.errors import CanNot
-from starsinaring.putting import can_be_put, fits_full, put_one_by_one, size_of_full, told_full, told_lot
+from starsinaring.putting import can_be_put, fan_of, fits_full, put_one_by_one, size_of_full, told_full, told_lot
 from starsinaring.wiring import all_wires_cross
 
 
@@ -76,17 +76,11 @@ def fan_at(ring, point):
     ring = told_ring(ring)
     told_number(point)
     ask_points(ring, (point,))
-    return _fan(ring, point)
+    return fan_of(ring, point)
 
 
 def fans_like(ring, lot):
     """The set of the points whose fan lot, a FULL LOT, is."""
     ring = told_ring(ring)
     lot = told_full(ring, lot)
-    return tuple([point for point in range(ring[0]) if _fan(ring, point) == lot])
-
-
-def _fan(ring, point):
-    n, k = ring
-    ends = [(point + step) % n for step in range(k)]
-    return tuple([line for line in all_long(ring) if line[0] in ends or line[1] in ends])
+    return tuple([point for point in range(ring[0]) if fan_of(ring, point) == lot])

@@ -1,6 +1,6 @@
 """Particles: low wires that go up all they can, and what holds those that fall short."""
 
-from starsinaring.checks import fits_crowd_of, told_drawing, told_lines, told_number, told_ring
+from starsinaring.checks import ask_between, fits_crowd_of, told_drawing, told_lines, told_number, told_ring
 from starsinaring.crossing import is_long
 from starsinaring.errors import CanNot
 from starsinaring.wiring import all_wires_cross, ask_run, lanes_in, wire_orders
@@ -97,14 +97,12 @@ def _told_drawing_with(ring, drawing, numbers):
 
 
 def _ask_low(ring, low):
-    if not 1 <= low < lanes_in(ring):
-        raise CanNot()
+    ask_between(low, 1, lanes_in(ring) - 1)
 
 
 def _ask_low_one(ring, low, index):
     _ask_low(ring, low)
-    if not 1 <= index <= low:
-        raise CanNot()
+    ask_between(index, 1, low)
 
 
 def _lanes_by_run(ring, drawing, low):

@@ -1,7 +1,7 @@
 """Lots, and what can be put to them."""
 
-from starsinaring.checks import ask_points, fits_drawing, told_drawing, told_number, told_ring
-from starsinaring.crossing import most_across
+from starsinaring.checks import ask_of, ask_points, fits_drawing, told_drawing, told_line, told_number, told_ring
+from starsinaring.crossing import all_long, most_across
 from starsinaring.errors import Unfit
 from starsinaring.wiring import all_wires_cross, lanes_in
 
@@ -34,6 +34,23 @@ def size_of_full(ring):
     return ring[1] * (lanes_in(ring) - 1)
 
 
+def fan_of(ring, point):
+    """The fan of point: all long LINES with an end among the k points from it on."""
+    n, k = ring
+    ends = [(point + step) % n for step in range(k)]
+    return tuple([line for line in all_long(ring) if line[0] in ends or line[1] in ends])
+
+
+def how_many_full_lots(ring):
+    """How many FULL LOTS ring has."""
+    above, below = 1, 1
+    for high in range(1, lanes_in(ring)):
+        for low in range(1, high + 1):
+            above *= low + high + 2 * ring[1]
+            below *= low + high
+    return above // below
+
+
 def is_full_lot(ring, drawing):
     """Whether drawing, a DRAWING, is a FULL LOT of ring."""
     return len(drawing) == size_of_full(ring) and all_wires_cross(ring, drawing)
@@ -50,6 +67,15 @@ def told_full(ring, value):
     if not is_full_lot(ring, lot):
         raise Unfit()
     return lot
+
+
+def told_full_with(ring, lot, line):
+    """The three, lot a FULL LOT, line one of its LINES; NoLine if it is none of them."""
+    ring = told_ring(ring)
+    lot = told_full(ring, lot)
+    line = told_line(ring, line)
+    ask_of(lot, line)
+    return (ring, lot, line)
 
 
 def can_be_put(ring, lot, line):

@@ -1,6 +1,6 @@
 """Runs: the long lines in order, as ties between lanes."""
 
-from starsinaring.checks import ask_long, fits_pair, told_line, told_number, told_ring
+from starsinaring.checks import ask_between, ask_long, fits_pair, told_line, told_number, told_ring
 from starsinaring.crossing import all_long, joined
 from starsinaring.errors import CanNot
 from starsinaring.wiring import ask_run, lanes_in, runs_in, ties_of
@@ -66,8 +66,7 @@ def line_tied(ring, run, lane):
 def ties_above(ring, lane):
     """The LINES that are ties between lane and the one above it, run by run."""
     ring = told_ring(ring)
-    if not 1 <= told_number(lane) <= lanes_in(ring):
-        raise CanNot()
+    ask_between(told_number(lane), 1, lanes_in(ring))
     return tuple([line for line in all_long(ring) if line[1] - line[0] - ring[1] == lane])
 
 

@@ -1,6 +1,8 @@
 """Wires of a full lot: they are its stars; and plain wires with any drawing."""
 
-from starsinaring.checks import told_drawing, told_line, told_long_line, told_number, told_ring, told_row, told_star
+from starsinaring.checks import (
+    ask_between, told_drawing, told_line, told_long_line, told_number, told_ring, told_row, told_star,
+)
 from starsinaring.crossing import all_long, is_long, length
 from starsinaring.errors import CanNot, NoLine, Unfit
 from starsinaring.putting import is_full_lot, told_full
@@ -156,6 +158,6 @@ def _told_with_wires(ring, lot, wires):
     lot = told_full(ring, lot)
     for wire in wires:
         told_number(wire)
-    if not all([1 <= wire <= lanes_in(ring) for wire in wires]):
-        raise CanNot()
+    for wire in wires:
+        ask_between(wire, 1, lanes_in(ring))
     return (ring, lot)

@@ -1,6 +1,6 @@
 """Ties, greedy wires and plain ones, for values that are known to be fit."""
 
-from starsinaring.errors import CanNot
+from starsinaring.checks import ask_between
 
 
 def lanes_in(ring):
@@ -54,10 +54,10 @@ def plain_wires(ring, drawing):
 
 def lines_crossed(lot, pairs):
     """For each two wires, the lesser one first, the LINE at which they cross; pairs those of a FULL LOT."""
-    return {tuple(sorted(pairs[line])): line for line in pairs if line not in lot}
+    touched = set(lot)
+    return {tuple(sorted(pairs[line])): line for line in pairs if line not in touched}
 
 
 def ask_run(ring, run):
     """Raises CanNot if run is none."""
-    if not 0 <= run < runs_in(ring):
-        raise CanNot()
+    ask_between(run, 0, runs_in(ring) - 1)

@@ -140,16 +140,24 @@ def low_lanes(ring, drawing, low):
     return [tuple(lane + 1 for lane, wire in enumerate(order) if wire <= low) for order in greedy_wires(ring, drawing)]
 
 
-def longest_row(ring, drawing, field):
-    """How many LINES the longest ROW of the field has: from near points to far ones, of drawing or not long."""
+def is_usable(ring, drawing, field, line):
+    """Whether line leads from a near point to a far one and is of drawing or not long."""
     n, k = ring
-    near = k + field
-    long = long_lines(ring)
-    usable = [line for line in all_lines(n) if line[0] < near <= line[1] and (line in drawing or line not in long)]
+    return line[0] < k + field <= line[1] and (line in drawing or length(n, line) <= k)
+
+
+def longest_within(ring, drawing, field, most_near, most_far):
+    """How many LINES a longest ROW has whose near ends and far ends are not above these."""
     best = {}
-    for a, b in usable:
-        best[(a, b)] = 1 + max([best[own] for own in best if own[0] < a and own[1] < b], default=0)
+    for a, b in all_lines(ring[0]):
+        if a <= most_near and b <= most_far and is_usable(ring, drawing, field, (a, b)):
+            best[(a, b)] = 1 + max([best[own] for own in best if own[0] < a and own[1] < b], default=0)
     return max(best.values(), default=0)
+
+
+def longest_row(ring, drawing, field):
+    """How many LINES the longest ROW of the field has."""
+    return longest_within(ring, drawing, field, ring[0], ring[0])
 
 
 def put_in_turn(lots, lot, lines):
@@ -292,3 +300,38 @@ def told_crossings(ring, lot):
     found = crossings(ring, lot)
     wires = range(1, n - 2 * k + 1)
     return tuple(tuple(found.get((own, far)) for far in wires) for own in wires)
+
+
+@lru_cache(maxsize=None)
+def exchanges(ring):
+    """For each FULL LOT the ascending list of its EXCHANGES: one LINE in the place of one leads to a FULL LOT."""
+    full = set(full_lots(ring))
+    long = long_lines(ring)
+    return {lot: [(gone, come) for gone in lot for come in long
+                  if come not in lot and swapped(lot, gone, come) in full] for lot in full}
+
+
+def swapped(lot, gone, come):
+    return tuple(sorted({*lot, come} - {gone}))
+
+
+@lru_cache(maxsize=None)
+def fathers(ring):
+    """For each FULL LOT the EXCHANGE that leads to its father; None for one that has no LINE that falls."""
+    falling = {lot: [(gone, come) for gone, come in pairs if come < gone] for lot, pairs in exchanges(ring).items()}
+    return {lot: min(pairs, default=None) for lot, pairs in falling.items()}
+
+
+def way_down(ring, lot):
+    steps = []
+    while fathers(ring)[lot] is not None:
+        steps.append(fathers(ring)[lot])
+        lot = swapped(lot, *steps[-1])
+    return steps, lot
+
+
+def weights(ring, lot):
+    """How much each wire weighs."""
+    n, k = ring
+    _, orders = plain_wires(ring, lot)
+    return tuple(sum(order.index(wire) + 1 for order in orders) for wire in range(1, n - 2 * k + 1))

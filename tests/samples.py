@@ -4,8 +4,10 @@ An argument is told by its name, the kind of [wrong.py] and a value. LATE are va
 kind for which an error behind Unfit() is stated.
 """
 
-from starsinaring import corners, crowds, filling, lines, lots, meeting, particles, runs, signs, stars, wires
-from starsinaring.errors import CanNot, NoLine, NoPoint, NoStar
+from starsinaring import (
+    corners, crowds, exchange, fields, filling, lines, lots, meeting, order, particles, runs, signs, stars, weights, wires,
+)
+from starsinaring.errors import Broken, CanNot, NoLine, NoPoint, NoStar
 
 RING = (8, 2)
 LONG = ((0, 3), (0, 4), (0, 5), (1, 4), (1, 5), (1, 6), (2, 5), (2, 6), (2, 7), (3, 6), (3, 7), (4, 7))
@@ -15,6 +17,8 @@ DRAWING = ((0, 4), (1, 4), (1, 5), (2, 6), (3, 7))
 LOT = ((0, 3), (1, 5), (2, 5), (4, 7))
 FULL = ((0, 3), (0, 4), (0, 5), (1, 5), (2, 5), (4, 7))
 OUT = ((1, 4), (1, 6), (2, 6), (2, 7), (3, 6), (3, 7))
+LAST = ((1, 6), (2, 6), (2, 7), (3, 6), (3, 7), (4, 7))
+ROW = (((2, 5), (1, 4)), ((1, 5), (3, 7)), ((0, 5), (3, 6)), ((1, 4), (2, 7)), ((0, 4), (2, 6)), ((0, 3), (1, 6)))
 STARS = ((0, 1, 2, 3, 5), (0, 1, 4, 5, 7), (0, 2, 3, 4, 5), (0, 4, 5, 6, 7))
 TABLE = (
     (None, (1, 4), (2, 7), (2, 6)), ((1, 4), None, (3, 7), (3, 6)), ((2, 7), (3, 7), None, (1, 6)), ((2, 6), (3, 6), (1, 6), None),
@@ -25,6 +29,8 @@ _RING = ("ring", "ring", RING)
 _DRAWN = (_RING, ("drawing", "drawing", DRAWING))
 _WITH = (_RING, ("lot", "lot", LOT))
 _FULL = (_RING, ("lot", "full", FULL))
+_FIELD = (*_DRAWN, ("field", "number", 2))
+_PRICES = ("prices", "prices", (3, -1, 2, 0))
 _CORNER = ("corner", "corner", (5, 7, 1))
 _STAR = ("star", "star", STARS[0])
 _OTHER = ("other", "star", STARS[3])
@@ -154,6 +160,51 @@ SAMPLES = [
     (wires.passes, [*_DRAWN]),
     (wires.all_once, [*_DRAWN]),
     (wires.end_order, [*_DRAWN]),
+    (exchange.newcomer, [*_FULL, ("line", "line", (1, 5))]),
+    (exchange.exchanged, [*_FULL, ("line", "line", (1, 5))]),
+    (exchange.exchanges, [*_FULL]),
+    (exchange.how_many_exchanges, [_RING]),
+    (exchange.is_exchange, [*_FULL, ("thing", "thing", ((1, 5), (2, 7)))]),
+    (exchange.gone_for, [*_FULL, ("line", "line", (1, 4))]),
+    (exchange.beside, [*_FULL]),
+    (exchange.gone_and_come, [*_FULL, ("other", "full", LAST)]),
+    (exchange.exchange_row, [*_FULL, ("other", "full", LAST)]),
+    (exchange.is_exchange_row, [*_FULL, ("other", "full", LAST), ("thing", "thing", ROW)]),
+    (exchange.led_by, [*_FULL, ("row", "row", ROW[:3])]),
+    (order.least_full, [_RING]),
+    (order.greatest_full, [_RING]),
+    (order.falling, [*_FULL]),
+    (order.rising, [*_FULL]),
+    (order.does_fall, [*_FULL, ("line", "line", (2, 5))]),
+    (order.father, [*_FULL]),
+    (order.sons, [*_FULL]),
+    (order.fathers_row, [*_FULL]),
+    (order.how_deep, [*_FULL]),
+    (order.way_down, [*_FULL]),
+    (order.tree_under, [*_FULL]),
+    (fields.near_points, [_RING, ("field", "number", 2)]),
+    (fields.far_points, [_RING, ("field", "number", 2)]),
+    (fields.fields_of, [_RING, ("line", "line", (1, 4))]),
+    (fields.longest_row, [*_FIELD]),
+    (fields.a_longest, [*_FIELD]),
+    (fields.row_table, [*_FIELD]),
+    (fields.is_row, [*_FIELD, ("thing", "thing", ((0, 4), (2, 6)))]),
+    (fields.is_longest, [*_FIELD, ("thing", "thing", ((0, 4), (1, 5), (2, 6), (3, 7)))]),
+    (fields.near_growth, [*_FIELD]),
+    (fields.far_growth, [*_FIELD]),
+    (fields.wide_fields, [*_DRAWN]),
+    (fields.more_than_k, [*_DRAWN]),
+    (weights.wire_weights, [*_FULL]),
+    (weights.weight_sum, [_RING]),
+    (weights.weight_moved, [*_FULL, ("line", "line", (1, 5))]),
+    (weights.most_weight, [_RING, ("chosen", "wires", (1, 3))]),
+    (weights.least_weight, [_RING, ("chosen", "wires", (1, 3))]),
+    (weights.best_lanes, [_RING, ("chosen", "wires", (1, 3))]),
+    (weights.worth, [*_FULL, _PRICES]),
+    (weights.best_worth, [_RING, _PRICES]),
+    (weights.is_best, [*_FULL, _PRICES]),
+    (weights.best_full, [_RING, _PRICES]),
+    (weights.raising, [*_FULL, _PRICES]),
 ]
 
 NOT_LONG = [((0, 1), CanNot, {}), ((0, 2), CanNot, {}), ((0, 7), CanNot, {}), ((1, 7), CanNot, {})]
@@ -168,6 +219,13 @@ NOT_SIDE = [(line, NoLine, {"line": line}) for line in ((0, 1), (0, 7), (0, 4), 
 NO_STARS = [(star, NoStar, {"star": star}) for star in ((0, 1, 2, 3, 4), (0, 1, 2, 3, 6), (3, 4, 5, 6, 7))]
 NO_WIRES = [(number, CanNot, {}) for number in (0, -1, 5, 6, 10 ** 6)]
 TURNED = tuple(tuple(reversed(row)) for row in reversed(TABLE))
+NOT_FULL = [(line, NoLine, {"line": line}) for line in ((0, 1), (0, 2), (0, 7), (1, 4), (3, 7))]
+NO_FIELDS = [(number, CanNot, {}) for number in (0, -1, 4, 5, 10 ** 6)]
+AGAIN = (((2, 5), (1, 4)), ((1, 4), (2, 5)))
+BROKEN = [
+    (ROW[:2] + ROW[:1], 2), (ROW[3:], 0), (ROW + ROW, 6), ((((2, 5), (2, 6)),), 0), (AGAIN * 3 + AGAIN[1:], 6),
+    ((((1, 4), (2, 5)),), 0), (AGAIN[:1] + AGAIN[:1], 1),
+]
 
 LATE = {
     (lines.long_at, "point"): NO_POINTS,
@@ -238,4 +296,19 @@ LATE = {
     (wires.wires_at, "line"): [(line, NoLine, {"line": line}) for line in ((0, 1), (0, 7), (6, 7))],
     (wires.order_behind, "run"): NO_RUNS,
     (wires.lot_of_crosses, "table"): [(TURNED, CanNot, {})],
+    (exchange.newcomer, "line"): NOT_FULL,
+    (exchange.exchanged, "line"): NOT_FULL,
+    (exchange.gone_for, "line"): [(line, NoLine, {"line": line}) for line in ((0, 1), (0, 2), (0, 7), *FULL)],
+    (exchange.led_by, "row"): [(row, Broken, {"number": number}) for row, number in BROKEN],
+    (order.does_fall, "line"): NOT_FULL,
+    (fields.near_points, "field"): NO_FIELDS,
+    (fields.far_points, "field"): NO_FIELDS,
+    (fields.longest_row, "field"): NO_FIELDS,
+    (fields.a_longest, "field"): NO_FIELDS,
+    (fields.row_table, "field"): NO_FIELDS,
+    (fields.is_row, "field"): NO_FIELDS,
+    (fields.is_longest, "field"): NO_FIELDS,
+    (fields.near_growth, "field"): NO_FIELDS,
+    (fields.far_growth, "field"): NO_FIELDS,
+    (weights.weight_moved, "line"): NOT_FULL,
 }

@@ -4,10 +4,12 @@ import unittest
 from pathlib import Path
 
 from starsinaring import (
-    corners, crowds, errors, filling, lines, lots, meeting, particles, runs, signs, stars, wires,
+    corners, crowds, errors, exchange, fields, filling, lines, lots, meeting, order, particles, runs, signs, stars, weights, wires,
 )
 
-MODULES = (errors, signs, lines, crowds, runs, particles, lots, filling, corners, stars, meeting, wires)
+MODULES = (
+    errors, signs, lines, crowds, runs, particles, lots, filling, corners, stars, meeting, exchange, order, wires, fields, weights,
+)
 FOLDER = Path(__file__).parent / "examples"
 
 

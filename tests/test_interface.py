@@ -45,6 +45,19 @@ FUNCTIONS = {
     "wires": "wire_way(ring,lot,wire) star_of(ring,lot,wire) wire_of(ring,lot,star) cross_line(ring,lot,wire,far)"
              " wires_at(ring,lot,line) order_behind(ring,lot,run) crosses_told(ring,lot) lot_of_crosses(ring,table)"
              " passes(ring,drawing) all_once(ring,drawing) end_order(ring,drawing)",
+    "exchange": "newcomer(ring,lot,line) exchanged(ring,lot,line) exchanges(ring,lot) how_many_exchanges(ring)"
+                " is_exchange(ring,lot,thing) gone_for(ring,lot,line) beside(ring,lot) gone_and_come(ring,lot,other)"
+                " exchange_row(ring,lot,other) is_exchange_row(ring,lot,other,thing) led_by(ring,lot,row)",
+    "order": "least_full(ring) greatest_full(ring) falling(ring,lot) rising(ring,lot) does_fall(ring,lot,line)"
+             " father(ring,lot) sons(ring,lot) fathers_row(ring,lot) how_deep(ring,lot) way_down(ring,lot)"
+             " tree_under(ring,lot)",
+    "fields": "near_points(ring,field) far_points(ring,field) fields_of(ring,line) longest_row(ring,drawing,field)"
+              " a_longest(ring,drawing,field) row_table(ring,drawing,field) is_row(ring,drawing,field,thing)"
+              " is_longest(ring,drawing,field,thing) near_growth(ring,drawing,field) far_growth(ring,drawing,field)"
+              " wide_fields(ring,drawing) more_than_k(ring,drawing)",
+    "weights": "wire_weights(ring,lot) weight_sum(ring) weight_moved(ring,lot,line) most_weight(ring,chosen)"
+               " least_weight(ring,chosen) best_lanes(ring,chosen) worth(ring,lot,prices) best_worth(ring,prices)"
+               " is_best(ring,lot,prices) best_full(ring,prices) raising(ring,lot,prices)",
 }
 
 

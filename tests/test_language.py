@@ -107,7 +107,8 @@ class Language(unittest.TestCase):
     def test_names(self):
         for name, tree in parsed().items():
             bound = bound_names(tree)
-            self.assertFalse(bound & (set(dir(builtins)) | BANNED_NAMES), name)
+            # doctest leaves its last answer there, by the name of a bar
+            self.assertFalse(bound & (set(dir(builtins)) - {"_"} | BANNED_NAMES), name)
             top = [own.name for own in tree.body if isinstance(own, (ast.FunctionDef, ast.ClassDef))]
             top += [own.name for node in tree.body if isinstance(node, ast.ImportFrom) for own in node.names]
             self.assertEqual(len(set(top)), len(top), name)

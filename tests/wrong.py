@@ -157,6 +157,35 @@ def no_tables(ring):
     return found
 
 
+def no_exchange_rows(ring):
+    n, k = ring
+    good, other = ((2, 5), (1, 4)), ((1, 5), (3, 7))
+    found = [own for own in NO_TUPLES] + [good, list(good), ((good,),), (good, (other,)), {good: other}, iter(()), nested(20, good)]
+    bad = [own for own in NO_TUPLES] + [(), good[:1], (*good, good[0]), (good[0], good[0]), good + other, [good[1], good[1]], (5, 1)]
+    bad += [((2, 5, 1, 4),), (2, 5, 1, 4), (good,), (good, other), (good[0], 1), (1, good[1]), {good[0]: good[1]}, nested(18, good)]
+    for line in no_lines(ring) + [(0, 1), (0, k), (1, k), (0, n - 1), (n - k - 1, n - 1), [0, k], ()]:
+        bad += [(line, good[1]), (good[0], line)]
+    for own in bad:
+        found += [(own,), (good, own, other)]
+    return found
+
+
+def no_sets_of_wires(ring):
+    top = ring[0] - 2 * ring[1]
+    found = [own for own in NO_TUPLES] + [(own,) for own in NO_NUMBERS] + [(own, top) for own in NO_NUMBERS]
+    found += [(1, own) for own in NO_NUMBERS] + [(0,), (0, 1), (-1,), (-1, 2), (top + 1,), (1, top + 1), (10 ** 6,), (2, 1), [2, 1]]
+    return found + [(1, 1), [top, top], (1, 3, 2), (1, 2, 2), ((1, 2),), ((1,), (2,)), nested(20, 1), {1: 2}, {1, 2}, iter((1, 2))]
+
+
+def no_prices(ring):
+    good = tuple(range(-1, ring[0] - 2 * ring[1] - 1))
+    found = [own for own in NO_TUPLES] + [(), good[1:], good + (0,), list(good[1:]), [*good, 0], good + good, (good,), nested(20, 1)]
+    for at in (0, 1, len(good) - 1):
+        for own in NO_NUMBERS:
+            found += [good[:at] + (own,) + good[at + 1:], [*good[:at], own, *good[at + 1:]]]
+    return found + [{own: own for own in good}, set(good), iter(good)]
+
+
 def _replaced(table, at, far, value):
     row = table[at][:far] + (value,) + table[at][far + 1:]
     return table[:at] + (row,) + table[at + 1:]
@@ -176,6 +205,9 @@ WRONG = {
     "star": no_stars,
     "group": no_groups,
     "table": no_tables,
+    "row": no_exchange_rows,
+    "wires": no_sets_of_wires,
+    "prices": no_prices,
     "number": lambda ring: NO_NUMBERS,
     "count": lambda ring: NO_COUNTS,
 }

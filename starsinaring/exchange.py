@@ -1,0 +1,125 @@
+"""Exchanges: one line of a full lot for the one that meets its two stars."""
+
+from starsinaring.checks import ask_out, fits_line, told_line, told_long_line, told_ring, told_row
+from starsinaring.crossing import is_long
+from starsinaring.errors import Broken, Unfit
+from starsinaring.putting import size_of_full, told_full, told_full_with
+from starsinaring.swapping import newcomers, steps_down, swapped
+
+
+def newcomer(ring, lot, line):
+    """The LINE that comes for line."""
+    ring, lot, line = told_full_with(ring, lot, line)
+    return newcomers(ring, lot)[line]
+
+
+def exchanged(ring, lot, line):
+    """The FULL LOT with the LINE that comes for line in its place."""
+    ring, lot, line = told_full_with(ring, lot, line)
+    return swapped(lot, line, newcomers(ring, lot)[line])
+
+
+def exchanges(ring, lot):
+    """All EXCHANGES of lot, ascending."""
+    ring = told_ring(ring)
+    return _pairs(ring, told_full(ring, lot))
+
+
+def how_many_exchanges(ring):
+    """How many EXCHANGES each FULL LOT has."""
+    return size_of_full(told_ring(ring))
+
+
+def is_exchange(ring, lot, thing):
+    """Whether thing is an EXCHANGE of lot."""
+    ring = told_ring(ring)
+    lot = told_full(ring, lot)
+    return _fits_exchange(ring, thing) and thing in _pairs(ring, lot)
+
+
+def gone_for(ring, lot, line):
+    """The set of the LINES of lot for which line comes."""
+    ring = told_ring(ring)
+    lot = told_full(ring, lot)
+    line = told_line(ring, line)
+    ask_out(ring, lot, line)
+    return tuple([gone for gone, come in _pairs(ring, lot) if come == line])
+
+
+def beside(ring, lot):
+    """The set of the FULL LOTS to which one EXCHANGE leads."""
+    ring = told_ring(ring)
+    lot = told_full(ring, lot)
+    return tuple(sorted([swapped(lot, gone, come) for gone, come in _pairs(ring, lot)]))
+
+
+def gone_and_come(ring, lot, other):
+    """The set of the LINES in lot alone, and the set of those in other alone."""
+    ring = told_ring(ring)
+    lot = told_full(ring, lot)
+    other = told_full(ring, other)
+    return (_alone(lot, other), _alone(other, lot))
+
+
+def exchange_row(ring, lot, other):
+    """A tuple of EXCHANGES that leads from lot to other."""
+    ring = told_ring(ring)
+    down = steps_down(ring, told_full(ring, lot))
+    back = steps_down(ring, told_full(ring, other))
+    # fathers lead from both to the least FULL LOT: from where they meet on, by the same steps
+    while down and back and down[-1] == back[-1]:
+        down.pop()
+        back.pop()
+    return tuple(down + [(come, gone) for gone, come in reversed(back)])
+
+
+def is_exchange_row(ring, lot, other, thing):
+    """Whether thing is a tuple of EXCHANGES that leads from lot to other."""
+    ring = told_ring(ring)
+    lot = told_full(ring, lot)
+    other = told_full(ring, other)
+    if not isinstance(thing, tuple) or not all([_fits_exchange(ring, own) for own in thing]):
+        return False
+    return _led(ring, lot, thing) == (len(thing), other)
+
+
+def led_by(ring, lot, row):
+    """The FULL LOT to which row leads from lot."""
+    ring = told_ring(ring)
+    lot = told_full(ring, lot)
+    row = tuple([_told_exchange(ring, own) for own in told_row(row)])
+    number, last = _led(ring, lot, row)
+    if number < len(row):
+        raise Broken(number)
+    return last
+
+
+def _pairs(ring, lot):
+    news = newcomers(ring, lot)
+    return [(line, news[line]) for line in lot]
+
+
+def _alone(lot, other):
+    return tuple([line for line in lot if line not in other])
+
+
+def _led(ring, lot, row):
+    """How many EXCHANGES of row lead on from lot, one behind another, and to which FULL LOT."""
+    for number, (gone, come) in enumerate(row):
+        if newcomers(ring, lot).get(gone) != come:
+            return (number, lot)
+        lot = swapped(lot, gone, come)
+    return (len(row), lot)
+
+
+def _fits_exchange(ring, thing):
+    if not isinstance(thing, tuple) or len(thing) != 2 or not all([fits_line(ring, own) for own in thing]):
+        return False
+    return thing[0] != thing[1] and is_long(ring, thing[0]) and is_long(ring, thing[1])
+
+
+def _told_exchange(ring, value):
+    pair = tuple([told_long_line(ring, own) for own in told_row(value)])
+    if not _fits_exchange(ring, pair):
+        raise Unfit()
+    return pair
