@@ -98,4 +98,5 @@ def _table(ring, lot):
 
 
 def _table_with(ring, lot, points):
-    return neighbour_table(*told_lot_with(ring, lot, points))
+    ring, lot = told_lot_with(ring, lot, points)
+    return neighbour_table(ring, lot)

@@ -86,7 +86,8 @@ def crowd_with(ring, lines, line):
     ring = told_ring(ring)
     lines = told_lines(ring, lines)
     line = told_line(ring, line)
-    return tuple(sorted((line, *crowd_across(ring[0], line, lines))))
+    crowd = crowd_across(ring[0], line, lines)
+    return tuple(sorted((line, *crowd)))
 
 
 def is_greatest_crowd(ring, lines, thing):

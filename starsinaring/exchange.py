@@ -1,7 +1,6 @@
 """Exchanges: one line of a full lot for the one that meets its two stars."""
 
 from starsinaring.checks import ask_out, fits_line, told_line, told_long_line, told_ring, told_row
-from starsinaring.crossing import is_long
 from starsinaring.errors import Broken, Unfit
 from starsinaring.putting import size_of_full, told_full, told_full_with
 from starsinaring.swapping import newcomers, steps_down, swapped
@@ -34,7 +33,7 @@ def is_exchange(ring, lot, thing):
     """Whether thing is an EXCHANGE of lot."""
     ring = told_ring(ring)
     lot = told_full(ring, lot)
-    return _fits_exchange(ring, thing) and thing in _pairs(ring, lot)
+    return _fits_pair(ring, thing) and thing in _pairs(ring, lot)
 
 
 def gone_for(ring, lot, line):
@@ -78,7 +77,7 @@ def is_exchange_row(ring, lot, other, thing):
     ring = told_ring(ring)
     lot = told_full(ring, lot)
     other = told_full(ring, other)
-    if not isinstance(thing, tuple) or not all([_fits_exchange(ring, own) for own in thing]):
+    if not isinstance(thing, tuple) or not all([_fits_pair(ring, own) for own in thing]):
         return False
     return _led(ring, lot, thing) == (len(thing), other)
 
@@ -112,14 +111,14 @@ def _led(ring, lot, row):
     return (len(row), lot)
 
 
-def _fits_exchange(ring, thing):
-    if not isinstance(thing, tuple) or len(thing) != 2 or not all([fits_line(ring, own) for own in thing]):
-        return False
-    return thing[0] != thing[1] and is_long(ring, thing[0]) and is_long(ring, thing[1])
+def _fits_pair(ring, thing):
+    """Whether thing is a pair of LINES."""
+    return isinstance(thing, tuple) and len(thing) == 2 and all([fits_line(ring, own) for own in thing])
 
 
 def _told_exchange(ring, value):
+    """value, a pair of two unlike long LINES."""
     pair = tuple([told_long_line(ring, own) for own in told_row(value)])
-    if not _fits_exchange(ring, pair):
+    if len(pair) != 2 or pair[0] == pair[1]:
         raise Unfit()
     return pair

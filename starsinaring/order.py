@@ -53,8 +53,9 @@ def sons(ring, lot):
 def fathers_row(ring, lot):
     """lot, its father, the father of this one, and so on, to the least FULL LOT."""
     ring = told_ring(ring)
-    row = [told_full(ring, lot)]
-    for gone, come in steps_down(ring, row[0]):
+    lot = told_full(ring, lot)
+    row = [lot]
+    for gone, come in steps_down(ring, lot):
         row.append(swapped(row[-1], gone, come))
     return tuple(row)
 

@@ -87,7 +87,8 @@ def stars_beside(ring, lot, star):
 
 def lacking_lines(ring, lot, star):
     """The set of the LINES of star that are neither of lot nor rim."""
-    return lines_lacking(*_told_with_star(ring, lot, star))
+    ring, lot, star = _told_with_star(ring, lot, star)
+    return lines_lacking(ring, lot, star)
 
 
 def lot_with_stars(ring, group):
@@ -110,8 +111,7 @@ def star_left(ring, group):
     ring = told_ring(ring)
     group = told_group(ring, group)
     star = _ends_left(ring, group)
-    if not fits_star(ring, star) or star in group:
-        raise CanNot()
+    # ends that are no STAR, or one of group, do not make it a set of all STARS in a LOT
     _full_of(ring, tuple(sorted((*group, star))))
     return star
 

@@ -55,7 +55,8 @@ def plain_wires(ring, drawing):
 def lines_crossed(lot, pairs):
     """For each two wires, the lesser one first, the LINE at which they cross; pairs those of a FULL LOT."""
     touched = set(lot)
-    return {tuple(sorted(pairs[line])): line for line in pairs if line not in touched}
+    # each two cross just once: till then the lesser one is below
+    return {pairs[line]: line for line in pairs if line not in touched}
 
 
 def ask_run(ring, run):

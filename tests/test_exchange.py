@@ -76,8 +76,9 @@ class SmallRings(Raising):
     def test_two_lots(self):
         for ring in SMALL + [(8, 2), (9, 3)]:
             lots = plain.full_lots(ring)
-            for lot in lots[::5]:
-                for other in lots[::3]:
+            few = len(lots) < 15
+            for lot in lots if few else lots[::5]:
+                for other in lots if few else lots[::3]:
                     both = (tuple(own for own in lot if own not in other), tuple(own for own in other if own not in lot))
                     self.assertEqual(both, exchange.gone_and_come(ring, lot, other))
                     row = exchange.exchange_row(ring, lot, other)

@@ -20,6 +20,7 @@ METHODS = set(
     "add append clear copy count endswith extend find get index insert items join keys pop remove replace reverse setdefault"
     " split startswith strip update values".split()
 )
+CHANGING = set("add append clear extend insert pop remove reverse setdefault update".split())
 BANNED_NAMES = set(
     "register mro elements open input law version_info with_traceback add_note compile dir eval exec exit id help os sys"
     " vars super".split()
@@ -36,6 +37,10 @@ BANNED_WORDS = re.compile(
 
 def parsed():
     return {path.stem: ast.parse(path.read_text()) for path in FILES}
+
+
+def names_in(node):
+    return {own.id for own in ast.walk(node) if isinstance(own, ast.Name)}
 
 
 def bound_names(tree):
@@ -141,6 +146,23 @@ class Language(unittest.TestCase):
                     self.assertTrue(all(isinstance(own, ast.Constant) for own in node.comparators), (name, node.lineno))
                 if isinstance(node, ast.ExceptHandler):
                     self.assertIsNotNone(node.type)
+
+    def test_stars_stand_before_names(self):
+        for name, tree in parsed().items():
+            for node in ast.walk(tree):
+                if isinstance(node, ast.Starred):
+                    self.assertIsInstance(node.value, ast.Name, (name, node.lineno))
+
+    def test_loops_do_not_change_what_they_go_over(self):
+        for name, tree in parsed().items():
+            for loop in [node for node in ast.walk(tree) if isinstance(node, ast.For)]:
+                over = {node.id for node in ast.walk(loop.iter) if isinstance(node, ast.Name)}
+                for node in [own for row in loop.body for own in ast.walk(row)]:
+                    if isinstance(node, ast.Call) and isinstance(node.func, ast.Attribute) and node.func.attr in CHANGING:
+                        self.assertFalse(over & names_in(node.func.value), (name, node.lineno))
+                    elif isinstance(node, (ast.Assign, ast.AugAssign)):
+                        targets = node.targets if isinstance(node, ast.Assign) else [node.target]
+                        self.assertFalse(any(over & names_in(own) for own in targets), (name, node.lineno))
 
     def test_every_function_is_told_in_words_or_begins_with_a_bar(self):
         for name, tree in parsed().items():
