@@ -29,6 +29,11 @@ def fits_line(ring, thing):
     return fits_pair(thing) and 0 <= thing[0] < thing[1] < ring[0]
 
 
+def fits_line_pair(ring, thing):
+    """Whether thing is a pair of LINES of ring."""
+    return isinstance(thing, tuple) and len(thing) == 2 and all([fits_line(ring, own) for own in thing])
+
+
 def is_ascending(row):
     """Whether each of row is greater than the one ahead of it."""
     return all([row[at] < row[at + 1] for at in range(len(row) - 1)])

@@ -1,9 +1,9 @@
 """Exchanges: one line of a full lot for the one that meets its two stars."""
 
-from starsinaring.checks import ask_out, fits_line, told_line, told_long_line, told_ring, told_row
+from starsinaring.checks import ask_out, fits_line_pair, told_line, told_long_line, told_ring, told_row
 from starsinaring.errors import Broken, Unfit
 from starsinaring.putting import size_of_full, told_full, told_full_with
-from starsinaring.swapping import newcomers, steps_down, swapped
+from starsinaring.swapping import fits_led, led_on, newcomers, row_between, swapped
 
 
 def newcomer(ring, lot, line):
@@ -33,7 +33,7 @@ def is_exchange(ring, lot, thing):
     """Whether thing is an EXCHANGE of lot."""
     ring = told_ring(ring)
     lot = told_full(ring, lot)
-    return _fits_pair(ring, thing) and thing in _pairs(ring, lot)
+    return fits_line_pair(ring, thing) and thing in _pairs(ring, lot)
 
 
 def gone_for(ring, lot, line):
@@ -63,23 +63,15 @@ def gone_and_come(ring, lot, other):
 def exchange_row(ring, lot, other):
     """A tuple of EXCHANGES that leads from lot to other."""
     ring = told_ring(ring)
-    down = steps_down(ring, told_full(ring, lot))
-    back = steps_down(ring, told_full(ring, other))
-    # fathers lead from both to the least FULL LOT: from where they meet on, by the same steps
-    while down and back and down[-1] == back[-1]:
-        down.pop()
-        back.pop()
-    return tuple(down + [(come, gone) for gone, come in reversed(back)])
+    lot = told_full(ring, lot)
+    return row_between(ring, lot, told_full(ring, other))
 
 
 def is_exchange_row(ring, lot, other, thing):
     """Whether thing is a tuple of EXCHANGES that leads from lot to other."""
     ring = told_ring(ring)
     lot = told_full(ring, lot)
-    other = told_full(ring, other)
-    if not isinstance(thing, tuple) or not all([_fits_pair(ring, own) for own in thing]):
-        return False
-    return _led(ring, lot, thing) == (len(thing), other)
+    return fits_led(ring, lot, told_full(ring, other), thing)
 
 
 def led_by(ring, lot, row):
@@ -87,7 +79,7 @@ def led_by(ring, lot, row):
     ring = told_ring(ring)
     lot = told_full(ring, lot)
     row = tuple([_told_exchange(ring, own) for own in told_row(row)])
-    number, last = _led(ring, lot, row)
+    number, last = led_on(ring, lot, row)
     if number < len(row):
         raise Broken(number)
     return last
@@ -100,20 +92,6 @@ def _pairs(ring, lot):
 
 def _alone(lot, other):
     return tuple([line for line in lot if line not in other])
-
-
-def _led(ring, lot, row):
-    """How many EXCHANGES of row lead on from lot, one behind another, and to which FULL LOT."""
-    for number, (gone, come) in enumerate(row):
-        if newcomers(ring, lot).get(gone) != come:
-            return (number, lot)
-        lot = swapped(lot, gone, come)
-    return (len(row), lot)
-
-
-def _fits_pair(ring, thing):
-    """Whether thing is a pair of LINES."""
-    return isinstance(thing, tuple) and len(thing) == 2 and all([fits_line(ring, own) for own in thing])
 
 
 def _told_exchange(ring, value):

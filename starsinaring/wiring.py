@@ -59,6 +59,20 @@ def lines_crossed(lot, pairs):
     return {pairs[line]: line for line in pairs if line not in touched}
 
 
+def lines_touched(ring, drawing, lines):
+    """The set of the LINES at which greedy wires touch that go through lines, all long ones, in this order."""
+    touched = set(drawing)
+    order = list(range(1, lanes_in(ring) + 1))
+    found = []
+    for a, b in lines:
+        lane = b - a - ring[1]
+        if (a, b) in touched or order[lane - 1] > order[lane]:
+            found.append((a, b))
+        else:
+            order[lane - 1], order[lane] = order[lane], order[lane - 1]
+    return tuple(sorted(found))
+
+
 def ask_run(ring, run):
     """Raises CanNot if run is none."""
     ask_between(run, 0, runs_in(ring) - 1)

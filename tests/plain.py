@@ -1,7 +1,7 @@
 """What the document says, searched for plainly, without any code of the package."""
 
 from functools import lru_cache
-from itertools import combinations
+from itertools import combinations, product
 from random import Random
 
 
@@ -335,3 +335,62 @@ def weights(ring, lot):
     n, k = ring
     _, orders = plain_wires(ring, lot)
     return tuple(sum(order.index(wire) + 1 for order in orders) for wire in range(1, n - 2 * k + 1))
+
+
+def full_with(ring, inside, outside=()):
+    """The FULL LOTS that have all LINES of inside and none of outside, ascending."""
+    return [lot for lot in full_lots(ring) if set(inside) <= set(lot) and not set(outside) & set(lot)]
+
+
+@lru_cache(maxsize=None)
+def bracket_rows(pairs):
+    """All bracket rows of so many pairs, ascending."""
+    rows = ["".join(signs) for signs in product("()", repeat=2 * pairs)]
+    return [row for row in rows if row.count("(") == pairs and all(opened(row, at) >= at - opened(row, at) for at in range(2 * pairs))]
+
+
+def opened(row, many):
+    """How many "(" the first so many signs of row have."""
+    return row[:many].count("(")
+
+
+def sheaves(ring):
+    """All sheaves, ascending: of all choices of k bracket rows of N pairs."""
+    n, k = ring
+    under = {(row, other) for row in bracket_rows(n - 2 * k) for other in bracket_rows(n - 2 * k)
+             if all(opened(row, at) <= opened(other, at) for at in range(len(row)))}
+    return [own for own in product(bracket_rows(n - 2 * k), repeat=k) if all(pair in under for pair in zip(own, own[1:]))]
+
+
+def determinant(table):
+    """By the first row, number by number."""
+    if not table:
+        return 1
+    rest = [[row[:at] + row[at + 1:] for row in table[1:]] for at in range(len(table))]
+    return sum((-1) ** at * table[0][at] * determinant(rest[at]) for at in range(len(table)) if table[0][at])
+
+
+@lru_cache(maxsize=None)
+def steps_from(ring, full):
+    """How many EXCHANGES, at the fewest, lead from full to each FULL LOT."""
+    told = {full: 0}
+    row = [full]
+    for own in row:
+        for gone, come in exchanges(ring)[own]:
+            other = swapped(own, gone, come)
+            if other not in told:
+                told[other] = told[own] + 1
+                row.append(other)
+    return told
+
+
+def turned(n, lines, number):
+    """lines, one step up after the other; back if number is below 0."""
+    for _ in range(number % n):
+        lines = tuple(sorted(line_of((a + 1) % n, (b + 1) % n) for a, b in lines))
+    return lines
+
+
+def mirrored(n, lines):
+    points = list(reversed(range(n)))
+    return tuple(sorted(line_of(points[a], points[b]) for a, b in lines))

@@ -5,7 +5,8 @@ kind for which an error behind Unfit() is stated.
 """
 
 from starsinaring import (
-    corners, crowds, exchange, fields, filling, lines, lots, meeting, order, particles, runs, signs, stars, weights, wires,
+    corners, counts, crowds, exchange, fields, filling, flat, gaps, lines, lots, meeting, order, particles, rounds, runs, signs, stars,
+    weights, wires,
 )
 from starsinaring.errors import Broken, CanNot, NoLine, NoPoint, NoStar
 
@@ -23,6 +24,9 @@ STARS = ((0, 1, 2, 3, 5), (0, 1, 4, 5, 7), (0, 2, 3, 4, 5), (0, 4, 5, 6, 7))
 TABLE = (
     (None, (1, 4), (2, 7), (2, 6)), ((1, 4), None, (3, 7), (3, 6)), ((2, 7), (3, 7), None, (1, 6)), ((2, 6), (3, 6), (1, 6), None),
 )
+# the greatest FULL LOT with LOT, and how one comes to it from FULL
+KEPT_LAST = ((0, 3), (1, 5), (1, 6), (2, 5), (3, 7), (4, 7))
+KEPT_ROW = (((0, 4), (3, 7)), ((0, 5), (1, 6)))
 NO_POINTS = [(-1, NoPoint, {"point": -1}), (8, NoPoint, {"point": 8}), (10 ** 6, NoPoint, {"point": 10 ** 6})]
 
 _RING = ("ring", "ring", RING)
@@ -34,6 +38,10 @@ _PRICES = ("prices", "prices", (3, -1, 2, 0))
 _CORNER = ("corner", "corner", (5, 7, 1))
 _STAR = ("star", "star", STARS[0])
 _OTHER = ("other", "star", STARS[3])
+_SIDES = (_RING, ("inside", "drawing", ((0, 4), (1, 5))), ("outside", "drawing", ((2, 6), (3, 7))))
+_KEPT = (*_WITH, ("full", "fullwith", FULL), ("other", "fullwith", KEPT_LAST))
+_ROUND = (_RING, ("lot", "twoshort", LOT))
+_FULLS = (_RING, ("full", "full", FULL), ("other", "full", LAST))
 
 SAMPLES = [
     (signs.words, [("text", "text", "ring 6 2 # no\nrow")]),
@@ -205,6 +213,43 @@ SAMPLES = [
     (weights.is_best, [*_FULL, _PRICES]),
     (weights.best_full, [_RING, _PRICES]),
     (weights.raising, [*_FULL, _PRICES]),
+    (counts.bracket_rows, [("number", "count", 7)]),
+    (counts.how_many_full, [_RING]),
+    (counts.is_sheaf, [_RING, ("thing", "thing", ("()(())()", "(()())()"))]),
+    (counts.sheaves, [_RING]),
+    (counts.how_many_with, [*_SIDES]),
+    (counts.full_at, [_RING, ("number", "count", 17)]),
+    (counts.full_number, [*_FULL]),
+    (counts.next_full, [*_FULL]),
+    (counts.by_point, [_RING, ("point", "number", 5)]),
+    (gaps.least_with, [*_WITH]),
+    (gaps.greatest_with, [*_WITH]),
+    (gaps.all_with, [*_WITH]),
+    (gaps.sizes_with, [*_WITH]),
+    (gaps.joined_with, [*_KEPT]),
+    (gaps.is_joined_with, [*_KEPT, ("thing", "thing", KEPT_ROW)]),
+    (gaps.can_be, [*_SIDES]),
+    (gaps.some_with, [*_SIDES]),
+    (gaps.always_lines, [*_SIDES]),
+    (gaps.never_lines, [*_SIDES]),
+    (gaps.is_block, [*_DRAWN]),
+    (gaps.least_block, [_RING, ("drawing", "drawing", LONG)]),
+    (flat.flattened, [*_FULL, ("point", "number", 6)]),
+    (flat.flat_line, [*_FULL, ("point", "number", 6), ("line", "line", (1, 5))]),
+    (flat.blown_up, [*_FULL, ("ends", "endsat", (4, 7))]),
+    (flat.ends_from, [*_FULL, ("point", "number", 3)]),
+    (flat.how_many_ends, [*_FULL, ("point", "number", 3)]),
+    (flat.are_ends, [*_FULL, ("point", "number", 0), ("thing", "thing", (4, 7))]),
+    (flat.ends_row, [*_FULL]),
+    (flat.lot_of_ends, [_RING, ("row", "endsrow", ((2, 4), (2, 3), (2, 4)))]),
+    (rounds.round_of, [*_ROUND]),
+    (rounds.round_size, [*_ROUND]),
+    (rounds.rounds_at, [_RING, ("full", "full", FULL)]),
+    (rounds.shared_stars, [_RING, ("full", "full", FULL), ("line", "line", (0, 3)), ("other", "line", (0, 4))]),
+    (rounds.fewest, [*_FULLS]),
+    (rounds.shortest_row, [*_FULLS]),
+    (rounds.by_steps, [_RING, ("full", "full", FULL)]),
+    (rounds.far_apart, [_RING]),
 ]
 
 NOT_LONG = [((0, 1), CanNot, {}), ((0, 2), CanNot, {}), ((0, 7), CanNot, {}), ((1, 7), CanNot, {})]
@@ -225,6 +270,12 @@ AGAIN = (((2, 5), (1, 4)), ((1, 4), (2, 5)))
 BROKEN = [
     (ROW[:2] + ROW[:1], 2), (ROW[3:], 0), (ROW + ROW, 6), ((((2, 5), (2, 6)),), 0), (AGAIN * 3 + AGAIN[1:], 6),
     ((((1, 4), (2, 5)),), 0), (AGAIN[:1] + AGAIN[:1], 1),
+]
+NO_INSIDES = [(((0, 4), (1, 5), (2, 6)), CanNot, {}), (LONG, CanNot, {}), (((2, 6),), CanNot, {}), (((1, 4), (2, 7), (3, 7)), CanNot, {})]
+NO_OUTSIDES = [(LONG, CanNot, {}), (((0, 4),), CanNot, {}), (((1, 5), (3, 6)), CanNot, {}), (((2, 6), (1, 5))[::-1], CanNot, {})]
+NO_ENDS_ROWS = [
+    ((4, 2), (2, 3), (2, 4)), ((2, 4), (2, 3), (5, 4)), ((2, 4), (2, -3), (2, 4)), ((2, 4), (2, 3), (2, 10 ** 6)), ((2, 4), (3, 3), (2, 4)),
+    ((0, 1), (2, 3), (2, 4)), ((7, 8), (2, 3), (2, 4)),
 ]
 
 LATE = {
@@ -311,4 +362,23 @@ LATE = {
     (fields.near_growth, "field"): NO_FIELDS,
     (fields.far_growth, "field"): NO_FIELDS,
     (weights.weight_moved, "line"): NOT_FULL,
+    (counts.full_at, "number"): [(number, CanNot, {}) for number in (84, 85, 10 ** 6, 10 ** 40)],
+    (counts.by_point, "point"): NO_POINTS,
+    (gaps.some_with, "inside"): NO_INSIDES,
+    (gaps.some_with, "outside"): NO_OUTSIDES,
+    (gaps.always_lines, "inside"): NO_INSIDES,
+    (gaps.always_lines, "outside"): NO_OUTSIDES,
+    (gaps.never_lines, "inside"): NO_INSIDES,
+    (gaps.never_lines, "outside"): NO_OUTSIDES,
+    (gaps.least_block, "drawing"): [(drawing, CanNot, {}) for drawing in ((), LONG[:3], ((0, 4), (1, 5)), OUT)],
+    (flat.flattened, "point"): NO_POINTS,
+    (flat.flat_line, "point"): NO_POINTS,
+    (flat.flat_line, "line"): NOT_FULL,
+    (flat.blown_up, "ends"): [(ends, CanNot, {}) for ends in ((7, 4), (4, 4), (0, 1), (1, 0), (6, 5), (2, 6), (7, 7))],
+    (flat.ends_from, "point"): NO_POINTS,
+    (flat.how_many_ends, "point"): NO_POINTS,
+    (flat.are_ends, "point"): NO_POINTS,
+    (flat.lot_of_ends, "row"): [(row, CanNot, {}) for row in NO_ENDS_ROWS],
+    (rounds.shared_stars, "line"): NOT_FULL,
+    (rounds.shared_stars, "other"): NOT_FULL,
 }

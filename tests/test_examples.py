@@ -4,11 +4,13 @@ import unittest
 from pathlib import Path
 
 from starsinaring import (
-    corners, crowds, errors, exchange, fields, filling, lines, lots, meeting, order, particles, runs, signs, stars, weights, wires,
+    corners, counts, crowds, errors, exchange, fields, filling, flat, gaps, lines, lots, meeting, order, particles, rounds, runs,
+    signs, stars, weights, wires,
 )
 
 MODULES = (
     errors, signs, lines, crowds, runs, particles, lots, filling, corners, stars, meeting, exchange, order, wires, fields, weights,
+    counts, gaps, flat, rounds,
 )
 FOLDER = Path(__file__).parent / "examples"
 

@@ -58,6 +58,15 @@ FUNCTIONS = {
     "weights": "wire_weights(ring,lot) weight_sum(ring) weight_moved(ring,lot,line) most_weight(ring,chosen)"
                " least_weight(ring,chosen) best_lanes(ring,chosen) worth(ring,lot,prices) best_worth(ring,prices)"
                " is_best(ring,lot,prices) best_full(ring,prices) raising(ring,lot,prices)",
+    "counts": "bracket_rows(number) how_many_full(ring) is_sheaf(ring,thing) sheaves(ring) how_many_with(ring,inside,outside)"
+              " full_at(ring,number) full_number(ring,lot) next_full(ring,lot) by_point(ring,point)",
+    "gaps": "least_with(ring,lot) greatest_with(ring,lot) all_with(ring,lot) sizes_with(ring,lot) joined_with(ring,lot,full,other)"
+            " is_joined_with(ring,lot,full,other,thing) can_be(ring,inside,outside) some_with(ring,inside,outside)"
+            " always_lines(ring,inside,outside) never_lines(ring,inside,outside) is_block(ring,drawing) least_block(ring,drawing)",
+    "flat": "flattened(ring,lot,point) flat_line(ring,lot,point,line) blown_up(ring,lot,ends) ends_from(ring,lot,point)"
+            " how_many_ends(ring,lot,point) are_ends(ring,lot,point,thing) ends_row(ring,lot) lot_of_ends(ring,row)",
+    "rounds": "round_of(ring,lot) round_size(ring,lot) rounds_at(ring,full) shared_stars(ring,full,line,other)"
+              " fewest(ring,full,other) shortest_row(ring,full,other) by_steps(ring,full) far_apart(ring)",
 }
 
 

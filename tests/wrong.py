@@ -186,6 +186,38 @@ def no_prices(ring):
     return found + [{own: own for own in good}, set(good), iter(good)]
 
 
+def no_full_lots_with(ring):
+    """What is no FULL LOT with the LOT of [samples.py]."""
+    lot = ((0, 3), (1, 5), (2, 5), (4, 7))
+    others = [own for own in plain.full_lots(ring) if not set(lot) <= set(own)]
+    return no_full_lots(ring) + others[::3] + [[list(line) for line in others[1]]]
+
+
+def no_lots_two_short(ring):
+    """What is no LOT with two LINES less than a FULL one."""
+    full = ((0, 3), (0, 4), (0, 5), (1, 5), (2, 5), (4, 7))
+    return no_lots(ring) + [(), [], full, full[1:], full[3:], full[:1], [list(own) for own in full], full[:2] + full[3:]]
+
+
+def no_ends_at(ring):
+    """What is no tuple of k points, but for one thing like (4, 7)."""
+    found = [own for own in NO_TUPLES] + [(own, 7) for own in NO_NUMBERS] + [(4, own) for own in NO_NUMBERS] + [[4, own] for own in NO_NUMBERS]
+    found += [(), (4,), (7,), (4, 7, 7), (4, 5, 7), [4], [4, 5, 7], (-1, 7), (4, -1), (4, ring[0]), (10 ** 6, 7), ((4, 7),), nested(20, 4)]
+    return found + [((4,), (7,)), {4: 7, 7: 4}, {4, 7}, iter((4, 7)), range(4, 6)]
+
+
+def no_ends_rows(ring):
+    """What is no tuple of n - 2k - 1 tuples of k numbers, but for one thing like ((2, 4), (2, 3), (2, 4))."""
+    good = ((2, 4), (2, 3), (2, 4))
+    found = [own for own in NO_TUPLES] + [(), good[1:], good + good[:1], list(good[1:]), (2, 4, 2), (good,), nested(20, 2), good[0], (2, 3, 2, 4, 2, 4)]
+    bad = [own for own in NO_TUPLES] + [(), (2,), (2, 3, 4), [2], [2, 3, 4], 23, ((2, 3),), ((2,), (3,)), {2: 3, 3: 2}, {2, 3}, nested(19, 2)]
+    for own in NO_NUMBERS:
+        bad += [(own, 3), (2, own), [2, own]]
+    for at in range(3):
+        found += [good[:at] + (own,) + good[at + 1:] for own in bad]
+    return found + [{0: good[0], 1: good[1], 2: good[2]}]
+
+
 def _replaced(table, at, far, value):
     row = table[at][:far] + (value,) + table[at][far + 1:]
     return table[:at] + (row,) + table[at + 1:]
@@ -208,6 +240,10 @@ WRONG = {
     "row": no_exchange_rows,
     "wires": no_sets_of_wires,
     "prices": no_prices,
+    "fullwith": no_full_lots_with,
+    "twoshort": no_lots_two_short,
+    "endsat": no_ends_at,
+    "endsrow": no_ends_rows,
     "number": lambda ring: NO_NUMBERS,
     "count": lambda ring: NO_COUNTS,
 }
