@@ -29,6 +29,11 @@ def fits_line(ring, thing):
     return fits_pair(thing) and 0 <= thing[0] < thing[1] < ring[0]
 
 
+def fits_long_line(ring, thing):
+    """Whether thing is a long LINE of ring."""
+    return fits_line(ring, thing) and is_long(ring, thing)
+
+
 def fits_line_pair(ring, thing):
     """Whether thing is a pair of LINES of ring."""
     return isinstance(thing, tuple) and len(thing) == 2 and all([fits_line(ring, own) for own in thing])
@@ -62,9 +67,26 @@ def fits_star(ring, thing):
     return len(thing) == 2 * ring[1] + 1 and is_ascending(thing) and 0 <= thing[0] and thing[-1] < ring[0]
 
 
+def fits_group(ring, thing):
+    """Whether thing is a set of STARS of ring."""
+    return isinstance(thing, tuple) and all([fits_star(ring, own) for own in thing]) and is_ascending(thing)
+
+
+def fits_exchange(ring, thing):
+    """Whether thing is an EXCHANGE of ring."""
+    return fits_line_pair(ring, thing) and thing[0] != thing[1] and all([is_long(ring, own) for own in thing])
+
+
 def fits_crowd_of(ring, thing, lines, number):
     """Whether thing is a CROWD of number LINES, all of lines."""
     return fits_crowd(ring, thing) and len(thing) == number and len(set(thing) - set(lines)) == 0
+
+
+def in_tuples(value, depth):
+    """value with tuples in the place of lists, so many levels deep."""
+    if depth == 0 or not isinstance(value, (list, tuple)):
+        return value
+    return tuple([in_tuples(own, depth - 1) for own in value])
 
 
 def told_number(value):
@@ -114,8 +136,8 @@ def told_line(ring, value):
 
 def told_long_line(ring, value):
     """value, a long LINE of ring."""
-    line = told_line(ring, value)
-    if not is_long(ring, line):
+    line = told_row(value)
+    if not fits_long_line(ring, line):
         raise Unfit()
     return line
 

@@ -1,6 +1,6 @@
 """Exchanges: one line of a full lot for the one that meets its two stars."""
 
-from starsinaring.checks import ask_out, fits_line_pair, told_line, told_long_line, told_ring, told_row
+from starsinaring.checks import ask_out, fits_exchange, fits_line_pair, in_tuples, told_line, told_ring
 from starsinaring.errors import Broken, Unfit
 from starsinaring.putting import size_of_full, told_full, told_full_with
 from starsinaring.swapping import fits_led, led_on, newcomers, row_between, swapped
@@ -78,7 +78,9 @@ def led_by(ring, lot, row):
     """The FULL LOT to which row leads from lot."""
     ring = told_ring(ring)
     lot = told_full(ring, lot)
-    row = tuple([_told_exchange(ring, own) for own in told_row(row)])
+    row = in_tuples(row, 3)
+    if not isinstance(row, tuple) or not all([fits_exchange(ring, own) for own in row]):
+        raise Unfit()
     number, last = led_on(ring, lot, row)
     if number < len(row):
         raise Broken(number)
@@ -92,11 +94,3 @@ def _pairs(ring, lot):
 
 def _alone(lot, other):
     return tuple([line for line in lot if line not in other])
-
-
-def _told_exchange(ring, value):
-    """value, a pair of two unlike long LINES."""
-    pair = tuple([told_long_line(ring, own) for own in told_row(value)])
-    if len(pair) != 2 or pair[0] == pair[1]:
-        raise Unfit()
-    return pair

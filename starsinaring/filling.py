@@ -1,9 +1,9 @@
 """Full lots, and how lots come to be full."""
 
 from starsinaring.checks import (
-    ask_points, fits_crowd_of, fits_line, told_drawing, told_long_row, told_number, told_ring,
+    ask_points, fits_crowd_of, fits_long_line, told_drawing, told_long_row, told_number, told_ring,
 )
-from starsinaring.crossing import all_long, is_long, largest_crowd
+from starsinaring.crossing import all_long, largest_crowd
 from starsinaring.errors import CanNot
 from starsinaring.putting import can_be_put, fan_of, fits_full, put_one_by_one, size_of_full, told_full, told_lot
 from starsinaring.wiring import all_wires_cross
@@ -66,9 +66,7 @@ def is_why_not_full(ring, drawing, thing):
     word, why = thing
     if not all_wires_cross(ring, drawing):
         return word == "crowd" and fits_crowd_of(ring, why, drawing, ring[1] + 1)
-    if word != "line" or not fits_line(ring, why) or not is_long(ring, why):
-        return False
-    return why not in drawing and can_be_put(ring, drawing, why)
+    return word == "line" and fits_long_line(ring, why) and why not in drawing and can_be_put(ring, drawing, why)
 
 
 def fan_at(ring, point):

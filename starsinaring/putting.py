@@ -1,20 +1,32 @@
 """Lots, and what can be put to them."""
 
 from starsinaring.checks import ask_of, ask_points, fits_drawing, told_drawing, told_line, told_number, told_ring
-from starsinaring.crossing import all_long, most_across
+from starsinaring.crossing import all_long, is_long, most_across
 from starsinaring.errors import Unfit
 from starsinaring.wiring import all_wires_cross, lanes_in
 
 
+def makes_lot(ring, drawing):
+    """Whether drawing, a DRAWING, is a LOT of ring."""
+    ends = sorted({end: True for line in drawing for end in line})
+    if len(ends) < 2 * ring[1] + 2:
+        return True
+    # the order of the ends tells which LINES cross: without all other points even a RING of any size is small
+    small = (len(ends), ring[1])
+    places = {end: place for place, end in enumerate(ends)}
+    lines = [(places[a], places[b]) for a, b in drawing]
+    return all_wires_cross(small, [line for line in lines if is_long(small, line)])
+
+
 def fits_lot(ring, thing):
     """Whether thing is a LOT of ring."""
-    return fits_drawing(ring, thing) and all_wires_cross(ring, thing)
+    return fits_drawing(ring, thing) and makes_lot(ring, thing)
 
 
 def told_lot(ring, value):
     """value, a LOT of ring, in tuples throughout; Unfit if it is none."""
     lot = told_drawing(ring, value)
-    if not all_wires_cross(ring, lot):
+    if not makes_lot(ring, lot):
         raise Unfit()
     return lot
 
@@ -53,7 +65,7 @@ def how_many_full_lots(ring):
 
 def is_full_lot(ring, drawing):
     """Whether drawing, a DRAWING, is a FULL LOT of ring."""
-    return len(drawing) == size_of_full(ring) and all_wires_cross(ring, drawing)
+    return len(drawing) == size_of_full(ring) and makes_lot(ring, drawing)
 
 
 def fits_full(ring, thing):

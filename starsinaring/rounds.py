@@ -6,7 +6,7 @@ from starsinaring.errors import Unfit
 from starsinaring.putting import is_full_lot, size_of_full, told_full, told_lot
 from starsinaring.starring import stars_with
 from starsinaring.swapping import all_full_with, least_full_with, newcomers, swapped
-from starsinaring.turning import all_turned
+from starsinaring.turning import kinds_of
 from starsinaring.wiring import plain_wires
 
 
@@ -98,8 +98,7 @@ def far_apart(ring):
     ask_few_full(ring)
     table = _table(ring)
     # turned, FULL LOTS are as far from one another as before: one of each kind is enough to begin with
-    firsts = [full for full in table if full == min(all_turned(ring[0], full))]
-    return max([len(_levels(table, full)) for full in firsts]) - 1
+    return max([len(_levels(table, full)) for full in kinds_of(ring)]) - 1
 
 
 def _size(ring, full, lines, shared, news):

@@ -5,10 +5,10 @@ kind for which an error behind Unfit() is stated.
 """
 
 from starsinaring import (
-    corners, counts, crowds, exchange, fields, filling, flat, gaps, lines, lots, meeting, order, particles, rounds, runs, signs, stars,
-    weights, wires,
+    corners, counts, crowds, exchange, fields, filling, flat, gaps, judge, lines, lots, meeting, moved, order, particles, rounds, runs,
+    signs, stars, texts, weights, wires,
 )
-from starsinaring.errors import Broken, CanNot, NoLine, NoPoint, NoStar
+from starsinaring.errors import BadText, Broken, CanNot, NoLine, NoPoint, NoStar
 
 RING = (8, 2)
 LONG = ((0, 3), (0, 4), (0, 5), (1, 4), (1, 5), (1, 6), (2, 5), (2, 6), (2, 7), (3, 6), (3, 7), (4, 7))
@@ -24,6 +24,9 @@ STARS = ((0, 1, 2, 3, 5), (0, 1, 4, 5, 7), (0, 2, 3, 4, 5), (0, 4, 5, 6, 7))
 TABLE = (
     (None, (1, 4), (2, 7), (2, 6)), ((1, 4), None, (3, 7), (3, 6)), ((2, 7), (3, 7), None, (1, 6)), ((2, 6), (3, 6), (1, 6), None),
 )
+# MIXED turned by 3, and mirrored and turned by 2
+MIXED_TURNED, MIXED_MIRRORED = ((0, 6), (1, 4), (2, 5), (3, 4), (3, 7), (4, 6)), ((0, 1), (0, 3), (0, 6), (1, 5), (2, 7), (4, 6))
+SHEET = (RING, (LOT, (), FULL), (ROW[:2], (), ROW[2:3]))
 # the greatest FULL LOT with LOT, and how one comes to it from FULL
 KEPT_LAST = ((0, 3), (1, 5), (1, 6), (2, 5), (3, 7), (4, 7))
 KEPT_ROW = (((0, 4), (3, 7)), ((0, 5), (1, 6)))
@@ -41,6 +44,10 @@ _OTHER = ("other", "star", STARS[3])
 _SIDES = (_RING, ("inside", "drawing", ((0, 4), (1, 5))), ("outside", "drawing", ((2, 6), (3, 7))))
 _KEPT = (*_WITH, ("full", "fullwith", FULL), ("other", "fullwith", KEPT_LAST))
 _ROUND = (_RING, ("lot", "twoshort", LOT))
+_LINES = (_RING, ("lines", "lines", MIXED))
+_SPOTS = (_RING, ("points", "spots", (0, 3, 6)))
+_FALLEN = ("claim", "claim", ("out", RING, LOT, (0, 5)))
+_STANDING = ("claim", "claim", ("exchange", RING, FULL, (1, 5), (2, 7)))
 _FULLS = (_RING, ("full", "full", FULL), ("other", "full", LAST))
 
 SAMPLES = [
@@ -250,6 +257,31 @@ SAMPLES = [
     (rounds.shortest_row, [*_FULLS]),
     (rounds.by_steps, [_RING, ("full", "full", FULL)]),
     (rounds.far_apart, [_RING]),
+    (moved.turned, [*_LINES, ("number", "number", -13)]),
+    (moved.mirrored, [*_LINES]),
+    (moved.points_turned, [*_SPOTS, ("number", "number", -13)]),
+    (moved.points_mirrored, [*_SPOTS]),
+    (moved.turns_to, [*_LINES, ("other", "lines", MIXED_TURNED)]),
+    (moved.mirrors_to, [*_LINES, ("other", "lines", MIXED_MIRRORED)]),
+    (moved.are_alike, [*_LINES, ("other", "lines", MIXED_MIRRORED)]),
+    (moved.like_itself, [*_LINES]),
+    (moved.least_alike, [*_LINES]),
+    (moved.kinds, [_RING]),
+    (moved.how_many_kinds, [_RING]),
+    (texts.is_sheet, [("thing", "thing", SHEET)]),
+    (texts.sheet_text, [("sheet", "sheet", SHEET)]),
+    (texts.read_sheet, [("text", "text", "ring 8 2\nlot\nline 0 4 # four\n\nrow\nswap 0 4 2 7")]),
+    (texts.lot_text, [*_WITH]),
+    (texts.read_lot, [_RING, ("text", "text", "0 4 1\n4 # 8\n\n3 7")]),
+    (texts.picture, [*_WITH]),
+    (texts.read_picture, [("text", "text", "o=x=\n=o=.\nx=o=\n=.=o\n")]),
+    (judge.is_claim, [("thing", "thing", ("star", RING, FULL, STARS[0]))]),
+    (judge.is_so, [_STANDING]),
+    (judge.paper_against, [_FALLEN]),
+    (judge.is_paper_against, [_FALLEN, ("thing", "thing", FULL)]),
+    (judge.reason_for, [_STANDING]),
+    (judge.is_reason_for, [_STANDING, ("thing", "thing", STARS[:2])]),
+    (judge.first_fallen, [("claims", "claims", (_STANDING[2], _FALLEN[2]))]),
 ]
 
 NOT_LONG = [((0, 1), CanNot, {}), ((0, 2), CanNot, {}), ((0, 7), CanNot, {}), ((1, 7), CanNot, {})]
@@ -381,4 +413,7 @@ LATE = {
     (flat.lot_of_ends, "row"): [(row, CanNot, {}) for row in NO_ENDS_ROWS],
     (rounds.shared_stars, "line"): NOT_FULL,
     (rounds.shared_stars, "other"): NOT_FULL,
+    (texts.read_sheet, "text"): [("", BadText, {"line": 0}), ("\nlot", BadText, {"line": 1}), ("ring 8 2\nline 0 3", BadText, {"line": 1})],
+    (texts.read_lot, "text"): [("0 4 1", BadText, {"line": 0}), ("0 4\n1 5 2 6", BadText, {"line": 0}), ("0 4\n1 5 !", BadText, {"line": 1})],
+    (texts.read_picture, "text"): [("", BadText, {"line": 0}), ("o=\n=", BadText, {"line": 1}), ("o=\n=o\n", CanNot, {})],
 }

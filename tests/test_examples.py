@@ -4,13 +4,13 @@ import unittest
 from pathlib import Path
 
 from starsinaring import (
-    corners, counts, crowds, errors, exchange, fields, filling, flat, gaps, lines, lots, meeting, order, particles, rounds, runs,
-    signs, stars, weights, wires,
+    corners, counts, crowds, desk, errors, exchange, fields, filling, flat, gaps, judge, lines, lots, meeting, moved, order,
+    particles, rounds, runs, signs, stars, texts, weights, wires,
 )
 
 MODULES = (
     errors, signs, lines, crowds, runs, particles, lots, filling, corners, stars, meeting, exchange, order, wires, fields, weights,
-    counts, gaps, flat, rounds,
+    counts, gaps, flat, rounds, moved, texts, judge, desk,
 )
 FOLDER = Path(__file__).parent / "examples"
 

@@ -4,6 +4,8 @@ import inspect
 import unittest
 from importlib import import_module
 
+from tests.samples import SAMPLES
+
 ERRORS = {
     "NoPoint": (LookupError, "point"), "NoLine": (LookupError, "line"), "NoStar": (LookupError, "star"),
     "NothingDone": (LookupError, None), "BadText": (ValueError, "line"), "Broken": (ValueError, "number"),
@@ -67,7 +69,14 @@ FUNCTIONS = {
             " how_many_ends(ring,lot,point) are_ends(ring,lot,point,thing) ends_row(ring,lot) lot_of_ends(ring,row)",
     "rounds": "round_of(ring,lot) round_size(ring,lot) rounds_at(ring,full) shared_stars(ring,full,line,other)"
               " fewest(ring,full,other) shortest_row(ring,full,other) by_steps(ring,full) far_apart(ring)",
+    "moved": "turned(ring,lines,number) mirrored(ring,lines) points_turned(ring,points,number) points_mirrored(ring,points)"
+             " turns_to(ring,lines,other) mirrors_to(ring,lines,other) are_alike(ring,lines,other) like_itself(ring,lines)"
+             " least_alike(ring,lines) kinds(ring) how_many_kinds(ring)",
+    "texts": "is_sheet(thing) sheet_text(sheet) read_sheet(text) lot_text(ring,lot) read_lot(ring,text) picture(ring,lot) read_picture(text)",
+    "judge": "is_claim(thing) is_so(claim) paper_against(claim) is_paper_against(claim,thing) reason_for(claim)"
+             " is_reason_for(claim,thing) first_fallen(claims)",
 }
+DESK = {"__init__": ["self", "ring"], "say": ["self", "text"], "ring": ["self"], "lot": ["self"], "undo": ["self"], "redo": ["self"], "twin": ["self"]}
 
 
 class Interface(unittest.TestCase):
@@ -86,6 +95,25 @@ class Interface(unittest.TestCase):
                     for parameter in signature.parameters.values():
                         self.assertEqual(parameter.POSITIONAL_OR_KEYWORD, parameter.kind)
                         self.assertIs(parameter.empty, parameter.default)
+
+    def test_each_function_has_a_sample(self):
+        told = {(f"starsinaring.{file}", entry.partition("(")[0]) for file, row in FUNCTIONS.items() for entry in row.split()}
+        self.assertEqual(told, {(function.__module__, function.__name__) for function, _ in SAMPLES})
+
+    def test_desk(self):
+        desk = import_module("starsinaring.desk").Desk
+        self.assertEqual(("starsinaring.desk", (object,)), (desk.__module__, desk.__bases__))
+        for name, arguments in DESK.items():
+            with self.subTest(method=name):
+                method = vars(desk)[name]
+                self.assertTrue(inspect.isfunction(method))
+                self.assertEqual("starsinaring.desk", method.__module__)
+                signature = inspect.signature(method)
+                self.assertEqual(arguments, list(signature.parameters))
+                for parameter in signature.parameters.values():
+                    self.assertEqual(parameter.POSITIONAL_OR_KEYWORD, parameter.kind)
+                    self.assertIs(parameter.empty, parameter.default)
+        self.assertIn("__eq__", vars(desk))
 
     def test_errors(self):
         module = import_module("starsinaring.errors")

@@ -82,10 +82,20 @@ class Language(unittest.TestCase):
     def test_module_level(self):
         for name, tree in parsed().items():
             self.assertIsInstance(tree.body[0], ast.Expr, f"{name} has no docstring")
+            above = set()
             for node in tree.body[1:]:
                 self.assertIsInstance(node, (ast.ImportFrom, ast.FunctionDef, ast.ClassDef, ast.Assign), name)
-                if isinstance(node, ast.Assign):
-                    ast.literal_eval(node.value)
+                if isinstance(node, ast.FunctionDef):
+                    above.add(node.name)
+                elif isinstance(node, ast.Assign):
+                    self.plain_value(node.value, above)
+
+    def plain_value(self, value, above):
+        """That value is a literal, or a dict of functions that stand above it in the file."""
+        if isinstance(value, ast.Dict) and all(isinstance(own, ast.Name) for own in value.values):
+            self.assertLessEqual({own.id for own in value.values}, above)
+            value = ast.Dict(value.keys, [ast.Constant(0) for _ in value.values])
+        ast.literal_eval(value)
 
     def test_imports(self):
         trees = parsed()

@@ -218,6 +218,45 @@ def no_ends_rows(ring):
     return found + [{0: good[0], 1: good[1], 2: good[2]}]
 
 
+def no_sets_of_points(ring):
+    n, _ = ring
+    found = [own for own in NO_TUPLES] + [(own,) for own in NO_NUMBERS] + [(0, own) for own in NO_NUMBERS] + [(own, n - 1) for own in NO_NUMBERS]
+    found += [(n,), (-1,), (-1, 0), (0, n), [0, n], (10 ** 6,), (-10 ** 6, 0), (1, 0), [3, 2], (0, 0), (0, 3, 3), (0, 3, 1), ((0, 3),), ((0,), (3,))]
+    return found + [nested(20, 0), {0: 1}, {0, 1}, iter((0, 3))]
+
+
+def no_sheets(ring):
+    lot, swap = ((0, 3), (1, 5), (2, 5), (4, 7)), ((2, 5), (1, 4))
+    found = [own for own in NO_TUPLES] + [(), (ring,), (ring, ()), (ring, (), (), ()), (ring, lot, ()), (ring, (), (swap,)), ((), ring, ()), nested(20, ()), {0: ring}]
+    found += [(own, (lot,), ((swap,),)) for own in no_rings(ring)] + [(ring, (own,), ()) for own in no_lots(ring)] + [(ring, (lot, own), ((swap,),)) for own in no_lots(ring)]
+    found += [(ring, own, ()) for own in NO_TUPLES] + [(ring, (), own) for own in NO_TUPLES] + [(ring, (lot,), (own,)) for own in no_exchange_rows(ring)]
+    return found + [[list(ring), [[]], [[], own]] for own in no_exchange_rows(ring)]
+
+
+def no_claims(ring):
+    full = ((0, 3), (0, 4), (0, 5), (1, 5), (2, 5), (4, 7))
+    lot, star, line, other = full[2:], (0, 1, 2, 3, 5), (1, 5), (2, 7)
+    found = [own for own in NO_TUPLES] + [(), ("lot",), ("lot", ring), ("lot", ring, lot, lot), ("lots", ring, lot), (None, ring, lot), (("lot",), ring, lot), ([], ring, lot), ({}, ring, lot)]
+    found += [("full", ring), ("star", ring, full), ("exchange", ring, full, line), ("out", ring, lot), ("out", ring, lot, other, other), nested(20, "lot"), {"lot": ring}]
+    for own in no_rings(ring):
+        found += [("lot", own, ()), ("full", own, ()), ("star", own, full, star), ("exchange", own, full, line, other), ["out", own, [], [0, 4]]]
+    found += [("lot", ring, own) for own in no_drawings(ring)] + [("full", ring, own) for own in no_lots(ring)] + [("out", ring, own, other) for own in no_lots(ring)]
+    for own in no_full_lots(ring):
+        found += [("star", ring, own, star), ["exchange", ring, own, line, other]]
+    for own in no_lines(ring) + [(0, 1), (0, ring[1]), (0, ring[0] - 1), [0, ring[1]]]:
+        found += [("exchange", ring, full, own, other), ("exchange", ring, full, line, own), ["out", ring, lot, own]]
+    found += [("exchange", ring, full, own, other) for own in ((1, 4), (3, 7), other)] + [("exchange", ring, full, line, own) for own in full]
+    return found + [("out", ring, lot, own) for own in lot] + [("star", ring, full, own) for own in no_stars(ring)]
+
+
+def no_rows_of_claims(ring):
+    good = ("lot", ring, ())
+    found = [own for own in NO_TUPLES] + [good, list(good), {0: good}, iter(()), nested(20, ()), ((good,),)]
+    for own in no_claims(ring)[::3]:
+        found += [(own,), (good, own), [("lot", ring, ((0, 4), (1, 5), (2, 6))), own, good]]
+    return found
+
+
 def _replaced(table, at, far, value):
     row = table[at][:far] + (value,) + table[at][far + 1:]
     return table[:at] + (row,) + table[at + 1:]
@@ -244,6 +283,10 @@ WRONG = {
     "twoshort": no_lots_two_short,
     "endsat": no_ends_at,
     "endsrow": no_ends_rows,
+    "spots": no_sets_of_points,
+    "sheet": no_sheets,
+    "claim": no_claims,
+    "claims": no_rows_of_claims,
     "number": lambda ring: NO_NUMBERS,
     "count": lambda ring: NO_COUNTS,
 }
