@@ -88,7 +88,7 @@ def by_point(ring, point):
         rows = [(order, many + 1) for order, many in rows] + [(crossed_at(order, lane), many) for order, many in rows]
     told = [0] * (len(ties) + 1)
     for order, many in rows:
-        told[many] += ways.get(order, 0)
+        told[many] += ways[order]
     return tuple(told)
 
 
@@ -102,8 +102,9 @@ def _told_lanes(ring, lot):
 
 def _is_bracket_row(thing, pairs):
     """Whether thing is a bracket row of so many pairs."""
-    if not isinstance(thing, str) or len(thing) != 2 * pairs or thing.count("(") != pairs or thing.count(")") != pairs:
+    if not isinstance(thing, str) or len(thing) != 2 * pairs or thing.count(")") != pairs:
         return False
+    # with so many ")", and never more of them than "(", all other signs are "("
     return all([2 * many >= at for at, many in enumerate(_opened(thing))])
 
 

@@ -133,10 +133,10 @@ def _far_points(ring, lot):
 def _flat(k, far, line):
     """Where line, of a LOT numbered from the point, goes: far are the far points of the STAR that is struck."""
     a, b = line
-    # a is p_a, far[a - 1] is q_a: up to this one LINES lead to y_a, from the next one on to the y behind it
-    if a <= k and (a == k or (a > 0 and b <= far[a - 1])):
-        return (a - 1, b - 1)
-    return (a, b - 1) if a <= k else (a - 1, b - 1)
+    # of p_a, for a to k, LINES up to q_a go to y_a, numbered a - 1, all others to the y behind it; far[a - 1] is q_a
+    if a < k and (a == 0 or b > far[a - 1]):
+        return (a, b - 1)
+    return (a - 1, b - 1)
 
 
 def _flattened_at_first(ring, lot):

@@ -17,10 +17,8 @@ def round_of(ring, lot):
     if len(lot) != size_of_full(ring) - 2:
         raise Unfit()
     least = least_full_with(ring, lot)
+    # greater LINES come for both: the neighbour that keeps the lesser one is the lesser one
     stays, gone = [line for line in least if line not in lot]
-    news = newcomers(ring, least)
-    if swapped(least, stays, news[stays]) < swapped(least, gone, news[gone]):
-        stays, gone = gone, stays
     found = []
     full = least
     # of the two LINES that a FULL LOT has more one has just come: the other one leads on

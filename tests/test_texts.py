@@ -34,7 +34,7 @@ BAD_TEXTS = [
     ("ring 6 2\nswap 0 3 2 5", 1), ("ring 6 2\nlot\nswap 0 3 2 5", 2), ("ring 6 2\nrow\nswap 0 3 0 3", 2), ("ring 6 2\nrow\nswap 0 3 2", 2),
     ("ring 6 2\nrow\nswap 0 3", 2), ("ring 6 2\nrow\nswap", 2), ("ring 6 2\nrow\nswap 0 3 2 5 1", 2), ("ring 6 2\nrow\nswap 0 2 2 5", 2),
     ("ring 6 2\nrow\nswap 0 3 0 1", 2), ("ring 6 2\nrow\nswap 3 0 2 5", 2), ("ring 6 2\nrow\nswap 0 3 5 2", 2), ("ring 6 2\nrow\nswap 0 3 2 6", 2),
-    ("ring 6 2\nrow\nswap 0 3 2 x", 2), ("ring 6 2\nrow\nswap 0 3 2 05", 2), ("ring 6 2\nrow\nswap 0 3 2 5\nswap 2 5 2 5", 3), ("ring 6 2\nrow\nlot", 2),
+    ("ring 6 2\nrow\nswap 0 3 2 x", 2), ("ring 6 2\nrow\nswap 0 3 2 05", 2), ("ring 6 2\nrow\nswap 0 3 2 5\nswap 2 5 2 5", 3), ("ring 6 2\nrow\nlot", 2), ("ring 6 2\nrow\nswaps 0 3 2 5", 2), ("ring 6 2\nrow\nring 0 3 2 5", 2), ("ring 6 2\nrow\n0 3 2 5", 2),
     ("ring 6 2\nlot\nline 0 3\nrow\nline 1 4", 4), ("ring 6 2\nrow\nrow\nlot", 3), ("ring 6 2\nrow\nswap 0 3 2 5\nlot", 3), ("ring 6 2\nlot\nrow\nswap 0 3 2 5\nline 0 3", 4),
     ("ring 6 2\nlot\nline 1 4\nline 0 3\nline 0 1", 3), ("ring 6 2\nlot\nline 0 1\nrow 5", 2), ("lot\nring 6 2\nring 6 2", 0),
     # faults of section 3 are ahead of all
