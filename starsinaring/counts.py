@@ -6,14 +6,19 @@ from starsinaring.checks import ask_few, ask_points, told_count, told_drawing, t
 from starsinaring.counting import (
     ask_lanes, crossed_at, first_order, how_many_ways, lot_of_way, number_of_way, ties_in, ways_to_last,
 )
-from starsinaring.errors import CanNot
+from starsinaring.errors import CanNot, Unfit
 from starsinaring.putting import how_many_full_lots, told_full
 from starsinaring.wiring import lanes_in
+
+_MOST_PAIRS = 1000
 
 
 def bracket_rows(number):
     """How many bracket rows of number pairs there are."""
-    return comb(2 * told_count(number), number) // (number + 1)
+    # asked ahead of comb, which takes long over great numbers
+    if told_count(number) > _MOST_PAIRS:
+        raise Unfit()
+    return comb(2 * number, number) // (number + 1)
 
 
 def how_many_full(ring):

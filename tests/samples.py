@@ -220,7 +220,7 @@ SAMPLES = [
     (weights.is_best, [*_FULL, _PRICES]),
     (weights.best_full, [_RING, _PRICES]),
     (weights.raising, [*_FULL, _PRICES]),
-    (counts.bracket_rows, [("number", "count", 7)]),
+    (counts.bracket_rows, [("number", "pairs", 7)]),
     (counts.how_many_full, [_RING]),
     (counts.is_sheaf, [_RING, ("thing", "thing", ("()(())()", "(()())()"))]),
     (counts.sheaves, [_RING]),

@@ -48,6 +48,18 @@ class BracketRows(Raising):
         for number in (0, 1, 2, 35, 500, 999, 1000):
             self.assertEqual(told[number], counts.bracket_rows(number))
 
+    def test_above_a_thousand(self):
+        self.assertEqual(catalan(1000), counts.bracket_rows(1000))
+        for number in (1001, 1002, 1023, 1024, 2000, 10 ** 4, 10 ** 6, 10 ** 30, 10 ** 1000):
+            self.assert_raises(Unfit, {}, counts.bracket_rows, number)
+
+    def test_numbers_elsewhere_are_of_any_size(self):
+        ring, many = (40, 17), by_product((40, 17))
+        self.assertGreater(many, 10 ** 6)
+        for number in (1001, 10 ** 6, many - 1):
+            self.assertEqual(number, counts.full_number(ring, counts.full_at(ring, number)))
+        self.assert_raises(CanNot, {}, counts.full_at, ring, 10 ** 1000)
+
     def test_each_is_told_by_lesser_ones(self):
         told = [counts.bracket_rows(number) for number in range(80)]
         for number in range(79):

@@ -17,6 +17,7 @@ class Odd:
 NO_TUPLES = (None, True, 5, 2.5, "", "ab", b"ab", {}, {0: 1}, set(), frozenset([1, 2]), Odd(), range(2))
 NO_NUMBERS = (True, False, None, "", "1", "x", 1.0, b"1", (), [], (1,), [1], {}, Odd(), nested(20, 1))
 NO_COUNTS = NO_NUMBERS + (-1, -10 ** 6)
+NO_PAIRS = NO_COUNTS + (1001, 1002, 2000, 10 ** 6, 10 ** 30, 10 ** 1000)
 
 
 def pairs_like(good):
@@ -289,6 +290,7 @@ WRONG = {
     "claims": no_rows_of_claims,
     "number": lambda ring: NO_NUMBERS,
     "count": lambda ring: NO_COUNTS,
+    "pairs": lambda ring: NO_PAIRS,
 }
 
 
